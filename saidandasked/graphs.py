@@ -1,0 +1,138 @@
+"""The stands that come, with their ranks, by numbers."""
+
+from saidandasked.tables import Table, is_broken
+
+# In the place of the index of a stand: the pair leads to a broken one.
+BROKEN = -1
+
+
+class Graph:
+    """The unbroken stands that come from some first ones, known by their indexes, as met."""
+
+    def __init__(self, table, first):
+        self.table = table
+        self.found = list(first)
+        self.number = {stand: at for at, stand in enumerate(first)}
+        # For each stand, for each call, in order, the stands behind its answers.
+        self.moves = []
+        # How a stand was met: the index of the one ahead of it and the number of the pair.
+        self.met_by = [None] * len(first)
+        grow(self)
+        # The rank of each stand, None of a safe one, and the first call that leads to lesser ones.
+        self.ranks = ranks_of(self.moves)
+
+    def is_held(self, at):
+        """Whether at is a safe stand."""
+        return at != BROKEN and self.ranks[at] is None
+
+    def is_held_first(self):
+        """Whether the first stand is safe."""
+        return self.is_held(0)
+
+    def held_answers(self, at, call):
+        """The indexes of the call's answers behind which the stand is safe."""
+        return [answer for answer, to in enumerate(self.moves[at][call]) if self.is_held(to)]
+
+    def rank_after(self, to):
+        """The rank of a stand to which a pair leads."""
+        return 0 if to == BROKEN else self.ranks[to]
+
+    def breaking_call(self, at):
+        """The index of the first call of which all answers lead to lesser ranks."""
+        rank = self.ranks[at]
+        for call, leads in enumerate(self.moves[at]):
+            ranks = [self.rank_after(to) for to in leads]
+            if None not in ranks and max(ranks) < rank:
+                return call
+        return None
+
+    def index_of(self, stand):
+        """The index of a stand by numbers; BROKEN if it is broken or does not come."""
+        return self.number.get(stand, BROKEN)
+
+
+def grow(graph):
+    """Meet all stands, one behind another, by calls, then by answers."""
+    table = graph.table
+    at = 0
+    while at < len(graph.found):
+        leads = []
+        for letter, stand in enumerate(table.behind(graph.found[at])):
+            leads.append(met(graph, at, letter, stand))
+        graph.moves.append(cut(leads, table.answer_names))
+        at += 1
+
+
+def met(graph, at, letter, stand):
+    """The index of a stand that is met behind the one with the index at."""
+    if is_broken(stand):
+        return BROKEN
+    if stand not in graph.number:
+        graph.number[stand] = len(graph.found)
+        graph.found.append(stand)
+        graph.met_by.append((at, letter))
+    return graph.number[stand]
+
+
+def cut(leads, by_call):
+    """A list with one item for each pair, cut into one list for each call."""
+    found = []
+    start = 0
+    for names in by_call:
+        found.append(leads[start:start + len(names)])
+        start += len(names)
+    return found
+
+
+def ranks_of(moves):
+    """The rank of each stand; None of those that get none."""
+    ranks = [None] * len(moves)
+    # How many answers of a call at a stand are not known yet to lead to a rank.
+    left = [[len(leads) for leads in calls] for calls in moves]
+    behind = arrows_to(moves)
+    ranked = []
+    for at, call in behind[BROKEN]:
+        lower(ranks, left, ranked, (at, call), 1)
+    step = 0
+    # The stands come in the order of their ranks, so a stand gets its rank from the greatest one behind.
+    while step < len(ranked):
+        here = ranked[step]
+        for arrow in behind[here]:
+            lower(ranks, left, ranked, arrow, ranks[here] + 1)
+        step += 1
+    return ranks
+
+
+def arrows_to(moves):
+    """For each stand, and BROKEN, the list of the pairs (stand, call) of which an answer leads there."""
+    found = {at: [] for at in range(BROKEN, len(moves))}
+    for at, calls in enumerate(moves):
+        for call, leads in enumerate(calls):
+            for to in leads:
+                found[to].append((at, call))
+    return found
+
+
+def lower(ranks, left, ranked, arrow, rank):
+    """One more answer of the arrow's call is known to lead to a lesser rank than this one."""
+    at, call = arrow
+    left[at][call] -= 1
+    if left[at][call] == 0 and ranks[at] is None:
+        ranks[at] = rank
+        ranked.append(at)
+
+
+def graph_of(document):
+    """The graph of the stands of the document that come from the first one."""
+    table = Table(document)
+    return Graph(table, [table.first])
+
+
+def way_to(graph, at):
+    """The list of the numbers of the pairs of the history by which the stand was met."""
+    found = []
+    while graph.met_by[at] is not None:
+        at, letter = graph.met_by[at]
+        found.append(letter)
+    found.reverse()
+    return found

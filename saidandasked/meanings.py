@@ -1,0 +1,149 @@
+"""The one form of what a document says."""
+
+from saidandasked.errors import BadMeaning, Empty, TooMany
+from saidandasked.freenames import free_names
+from saidandasked.graphs import graph_of
+from saidandasked.houses import answer_names, call_names, is_house
+from saidandasked.kinds import is_index, is_string_among, is_told, is_tuple_of, rises
+from saidandasked.merging import first_of_each, merged, met_from
+from saidandasked.needs import need_document, need_documents, need_name
+from saidandasked.walks import Walk
+
+
+def is_meaning(thing):
+    """Whether any value is a meaning."""
+    if not is_told(thing, "meaning", 3) or not is_house(thing[1]) or not isinstance(thing[2], tuple):
+        return False
+    by_call = answer_names(thing[1])
+    rows = thing[2]
+    if not all(is_meaning_row(by_call, len(rows), row) for row in rows):
+        return False
+    return not rows or is_in_order(by_call, rows)
+
+
+def is_meaning_row(by_call, many, row):
+    """Whether any value has for each call one or more pairs (answer, index of a row), as told."""
+    if not is_tuple_of(row, len(by_call)):
+        return False
+    return all(are_pairs(names, many, pairs) for names, pairs in zip(by_call, row))
+
+
+def are_pairs(names, many, pairs):
+    """Whether any value is a tuple of pairs of ascending answers and indexes, not ()."""
+    if not isinstance(pairs, tuple) or not pairs:
+        return False
+    for pair in pairs:
+        if not is_tuple_of(pair, 2) or not is_string_among(pair[0], names) or not is_index(pair[1], many):
+            return False
+    return rises([names.index(pair[0]) for pair in pairs])
+
+
+def is_in_order(by_call, rows):
+    """Whether the rows are met one behind another, and no two are alike."""
+    moves = [row_moves(by_call, row) for row in rows]
+    if met_from(0, moves) != list(range(len(rows))):
+        return False
+    return len(set(merged_rows(moves))) == len(rows)
+
+
+def row_moves(by_call, row):
+    """For each call and answer the index of the row to which the answer leads, or -1."""
+    found = []
+    for names, pairs in zip(by_call, row):
+        leads = {answer: to for answer, to in pairs}
+        found.extend([leads.get(answer, -1) for answer in names])
+    return found
+
+
+def merged_rows(moves):
+    """As merged, for rows some of whose moves are -1, which is no row."""
+    nowhere = len(moves)
+    whole = [[nowhere if to < 0 else to for to in steps] for steps in moves]
+    whole.append([nowhere] * len(moves[0]))
+    return merged([True] * nowhere + [False], whole)[:nowhere]
+
+
+def meaning(document):
+    """The meaning of the document."""
+    need_document(document)
+    graph = graph_of(document)
+    if not graph.is_held_first():
+        return ("meaning", document[1], ())
+    # Stands that are not safe stand in no row: their moves lead nowhere, and nothing leads to them.
+    moves = [held_moves(graph, at) for at in range(len(graph.found))]
+    numbers = merged_rows(moves)
+    sources = first_of_each(numbers)
+    by_number = {part: [numbers[to] if to >= 0 else -1 for to in moves[sources[part]]] for part in sources}
+    order = met_from(numbers[0], by_number)
+    place = {part: at for at, part in enumerate(order)}
+    rows = [told_row(graph.table, by_number[part], place) for part in order]
+    return ("meaning", document[1], tuple(rows))
+
+
+def held_moves(graph, at):
+    """For each call and answer the index of the safe stand to which they lead, or -1."""
+    return [to if graph.is_held(to) else -1 for leads in graph.moves[at] for to in leads]
+
+
+def told_row(table, steps, place):
+    """The row of a meaning whose answers lead so."""
+    by_call = {name: [] for name in table.call_names}
+    for (call, answer), to in zip(table.pairs, steps):
+        if to >= 0:
+            by_call[call].append((answer, place[to]))
+    return tuple(tuple(by_call[name]) for name in table.call_names)
+
+
+def document_of(said, name):
+    """The document of one clause of this name that has the meaning."""
+    if not is_meaning(said):
+        raise BadMeaning("no meaning")
+    need_name(name)
+    if not said[2]:
+        raise Empty("no rows")
+    if len(said[2]) > 40:
+        raise TooMany("more than 40 rows")
+    places = free_names(len(said[2]))
+    calls = call_names(said[1])
+    rows = []
+    for place, row in zip(places, said[2]):
+        for call, pairs in zip(calls, row):
+            rows.append((place, call, tuple((answer, places[to]) for answer, to in pairs)))
+    return ("document", said[1], (("clause", name, places, tuple(rows)),))
+
+
+def alike(document, other):
+    """Whether the meanings of both documents are equal."""
+    need_documents(document, other)
+    return meaning(document) == meaning(other)
+
+
+def disputed(document, other):
+    """None, or the first history that just one of both documents holds, and which one does."""
+    need_documents(document, other)
+    one = meaning(document)
+    two = meaning(other)
+    if one == two:
+        return None
+    if not one[2] or not two[2]:
+        return (), (1 if one[2] else 2)
+    return first_dispute(document[1], one[2], two[2])
+
+
+def first_dispute(house, one_rows, two_rows):
+    """As disputed, of meanings with rows that are unlike."""
+    by_call = answer_names(house)
+    pairs = [(call[1], answer) for call in house[1] for answer in call[2]]
+    one_moves = [row_moves(by_call, row) for row in one_rows]
+    two_moves = [row_moves(by_call, row) for row in two_rows]
+    walk = Walk((0, 0))
+    at = 0
+    while at < len(walk.found):
+        here = walk.found[at]
+        for pair, one, two in zip(pairs, one_moves[here[0]], two_moves[here[1]]):
+            if (one < 0) != (two < 0):
+                return tuple(walk.way(at)) + (pair,), (1 if two < 0 else 2)
+            if one >= 0:
+                walk.meet((one, two), at, pair)
+        at += 1
+    return None

@@ -1,0 +1,99 @@
+"""States that nothing tells apart become one, and are numbered as they are met."""
+
+
+class Parts:
+    """States in parts, which are split until two states of a part are alike."""
+
+    def __init__(self, colours, moves):
+        self.part_by_state = []
+        # The states of each part, as keys, so that one can be taken out quickly.
+        self.states = []
+        number = {}
+        for state, colour in enumerate(colours):
+            if colour not in number:
+                number[colour] = len(self.states)
+                self.states.append({})
+            self.part_by_state.append(number[colour])
+            self.states[number[colour]][state] = True
+        self.ahead = states_ahead(moves)
+        self.waiting = list(range(len(self.states)))
+        self.is_waiting = [True] * len(self.states)
+
+    def refine(self):
+        """Split parts by what leads to others, until nothing is split any more."""
+        while self.waiting:
+            goal = self.waiting.pop()
+            self.is_waiting[goal] = False
+            # The goal may be split itself meanwhile; it is looked at as it is now.
+            states = list(self.states[goal])
+            for ahead in self.ahead:
+                self.split_by(ahead, states)
+
+    def split_by(self, ahead, states):
+        """Split each part of which some states alone lead to these ones."""
+        hit = {}
+        for state in states:
+            for source in ahead.get(state, ()):
+                hit.setdefault(self.part_by_state[source], []).append(source)
+        for part in hit:
+            if len(hit[part]) < len(self.states[part]):
+                self.cut_off(part, hit[part])
+
+    def cut_off(self, part, states):
+        """Make a part of its own of these states of the part."""
+        new = len(self.states)
+        self.states.append({})
+        for state in states:
+            del self.states[part][state]
+            self.states[new][state] = True
+            self.part_by_state[state] = new
+        # If the part does not wait, the lesser of both is enough.
+        self.is_waiting.append(False)
+        if self.is_waiting[part] or len(states) <= len(self.states[part]):
+            self.is_waiting[new] = True
+            self.waiting.append(new)
+        else:
+            self.is_waiting[part] = True
+            self.waiting.append(part)
+
+
+def states_ahead(moves):
+    """For each kind of move the dict from a state to the list of those that lead to it."""
+    found = [{} for step in moves[0]] if moves else []
+    for state, steps in enumerate(moves):
+        for kind, to in enumerate(steps):
+            found[kind].setdefault(to, []).append(state)
+    return found
+
+
+def merged(colours, moves):
+    """For each state a number, the same for two that have the same colour and so on behind all moves.
+
+    Each state has as many moves, to any states; nothing else is asked of the colours than to be keys.
+    """
+    parts = Parts(colours, moves)
+    parts.refine()
+    return parts.part_by_state
+
+
+def met_from(first, moves):
+    """The list of the states, as they are met from the first one; negative numbers lead nowhere."""
+    found = [first]
+    known = {first: True}
+    at = 0
+    while at < len(found):
+        for to in moves[found[at]]:
+            if to >= 0 and to not in known:
+                known[to] = True
+                found.append(to)
+        at += 1
+    return found
+
+
+def first_of_each(numbers):
+    """The dict from each number to the first index that has it."""
+    found = {}
+    for at, number in enumerate(numbers):
+        if number not in found:
+            found[number] = at
+    return found
