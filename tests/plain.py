@@ -1,5 +1,6 @@
 """Plain walks by the words of the document, slow and without anything of the package."""
 
+from functools import lru_cache
 from itertools import product
 
 KEPT = ("answer ask call clause copy document draw false give house inner law never node outer program "
@@ -219,6 +220,7 @@ def coming(document, first=None):
     return found
 
 
+@lru_cache(maxsize=20000)
 def ranks(document, first=None):
     """The ranks of the unbroken stands that come; safe ones have None."""
     first = first_stand(document) if first is None else first
@@ -272,6 +274,7 @@ def told_history(program, word):
     return tuple(zip(word, trace(program, word)[0]))
 
 
+@lru_cache(maxsize=100000)
 def right(document, program):
     """Whether the program is right, by all pairs of states and stands."""
     queue = [(0, first_stand(document))]
