@@ -2,7 +2,7 @@
 
 from saidandasked.errors import BadCount, BadFuture, BadNumber
 from saidandasked.graphs import graph_of
-from saidandasked.kinds import is_number, is_string_among, is_tuple_of
+from saidandasked.kinds import is_number, is_number_between, is_string_among, is_tuple_of
 from saidandasked.needs import need_document, need_program
 
 
@@ -13,24 +13,39 @@ def need_count(k):
 
 
 class Futures:
-    """How many futures of up to k calls there are from each stand; none from one that is not safe."""
+    """How many futures there are from the safe stands that come, by how many of k calls are left there."""
 
     def __init__(self, document, k):
         self.graph = graph_of(document)
         self.names = self.graph.table.answer_names
-        stands = list(range(len(self.graph.found)))
-        self.many = [[1 if self.graph.is_held(at) else 0 for at in stands]]
+        # Only stands that come just then are counted, so that no number is greater than the first one's.
+        layers = [[0] if self.graph.is_held_first() else []]
+        for _ in range(k):
+            layers.append(self.held_behind(layers[-1]))
+        layers.reverse()
+        self.many = [{at: 1 for at in layers[0]}]
         for calls in range(1, k + 1):
-            self.many.append([self.counted(at, calls) for at in stands])
+            self.many.append({at: self.counted(at, calls) for at in layers[calls]})
+
+    def held_behind(self, stands):
+        """The list of the safe stands behind these ones, each once."""
+        found = {}
+        for at in stands:
+            for call in range(len(self.names)):
+                for _, to in self.held_pairs(at, call):
+                    found[to] = True
+        return list(found)
 
     def counted(self, at, calls):
         """How many futures of so many calls, 1 or more, there are from the stand."""
-        if not self.graph.is_held(at):
-            return 0
         whole = 1
         for call in range(len(self.names)):
             whole *= self.choices(at, calls, call)
         return whole
+
+    def first_many(self):
+        """How many futures of k calls there are from the first stand."""
+        return self.many[-1].get(0, 0)
 
     def choices(self, at, calls, call):
         """How many pairs (answer, future) of the call a future of so many calls from the stand can have."""
@@ -93,7 +108,7 @@ def futures(document, k):
     """How many futures of k calls there are from the first stand."""
     need_document(document)
     need_count(k)
-    return Futures(document, k).many[k][0]
+    return Futures(document, k).first_many()
 
 
 def future(document, k, number):
@@ -101,7 +116,7 @@ def future(document, k, number):
     need_document(document)
     need_count(k)
     known = Futures(document, k)
-    if not is_number(number) or not 0 <= number < known.many[k][0]:
+    if not is_number_between(number, 0, known.first_many() - 1):
         raise BadNumber("no number of a future")
     return known.told(0, k, number)
 
@@ -111,7 +126,7 @@ def number_of(document, k, told):
     need_document(document)
     need_count(k)
     known = Futures(document, k)
-    number = known.number_seen(0, k, told) if known.many[k][0] else None
+    number = known.number_seen(0, k, told) if known.first_many() else None
     if number is None:
         raise BadFuture("no such future")
     return number

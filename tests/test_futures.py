@@ -130,6 +130,20 @@ class Futures(unittest.TestCase):
         self.assertEqual(number_of(document, 20, told), 1)
         self.assertEqual(futures(samples.plus_chain(15), 20), 1)
 
+    def test_numbers_stay_small(self):
+        # Nothing is counted that does not come: not where all breaks, and not behind what k calls reach.
+        wide = ("house", tuple(("call", name, ("x", "y", "z")) for name in "abdef"))
+        rows = (("p", "a", ()), ("p", "b", (("x", "q"),)))
+        document = ("document", wide, (("clause", "k", ("p", "q"), rows),))
+        self.assertEqual(futures(document, 20), 0)
+        rows = tuple(("p", call, (("x", "p"),)) for call in "abdef")
+        forced = ("document", wide, (("clause", "k", ("p", "q"), rows),))
+        self.assertEqual(futures(forced, 20), 1)
+        chain = [("p", call, (("x", "p"),)) for call in "abde"] + [("p", "f", (("x", "q"),))]
+        chain += [(place, call, (("y", to),)) for place, to in (("q", "r"), ("r", "s")) for call in "abdef"]
+        late = ("document", wide, (("clause", "k", ("p", "q", "r", "s"), tuple(chain)),))
+        self.assertEqual([futures(late, k) for k in range(5)], [1, 1, 1, 1, 3 ** 125])
+
     def test_no_futures(self):
         for k in (0, 1, 2, 3):
             wrong = ODD + [(("ok", ()), ("none", ())), (("ok", ()),), (("x",),)]

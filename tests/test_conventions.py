@@ -1,0 +1,180 @@
+"""The conventions [3] for every function: names of parameters, errors from left to right, nothing changed."""
+
+import copy
+import importlib
+import inspect
+import unittest
+
+from saidandasked import errors
+from tests import samples
+from tests.samples import MADE, ODD, ONE, STORE, STORE_CLAUSE, STORE_DOC, TAKES, TURNED
+
+LAW = "BadLaw"
+DOC = "BadDocument"
+PROG = "BadProgram"
+FIRST = (("empty",),)
+HISTORY = (("put", "ok"),)
+MEANING = ("meaning", ONE, (((("x", 0),),),))
+OUTER = ("outer", ONE, STORE, (("wait", (1,)), ("answer", "x", 0)))
+
+# For each function its parameters: the name, a good value, and the error for others (None: any value is judged).
+TABLE = {
+    "words.is_name": [("thing", "a", None)],
+    "words.words_of": [("text", "a b", "BadText")],
+    "houses.is_house": [("thing", ONE, None)],
+    "houses.is_word": [("house", ONE, "BadHouse"), ("thing", ("c",), None)],
+    "houses.is_history": [("house", ONE, "BadHouse"), ("thing", (("c", "x"),), None)],
+    "clauses.is_clause": [("house", STORE, "BadHouse"), ("thing", STORE_CLAUSE, None)],
+    "clauses.is_document": [("thing", STORE_DOC, None)],
+    "programs.is_program": [("thing", MADE, None)],
+    "programs.answers": [("program", MADE, PROG), ("word", ("put",), "BadWord")],
+    "programs.history": [("program", MADE, PROG), ("word", ("put",), "BadWord")],
+    "programs.state_behind": [("program", MADE, PROG), ("word", ("put",), "BadWord")],
+    "lawforms.is_law": [("thing", TAKES, None)],
+    "outers.is_outer": [("thing", OUTER, None)],
+    "leads.lots_behind": [("document", STORE_DOC, DOC), ("history", HISTORY, "BadHistory")],
+    "leads.is_let": [("document", STORE_DOC, DOC), ("history", HISTORY, "BadHistory")],
+    "leads.broken_at": [("document", STORE_DOC, DOC), ("history", HISTORY, "BadHistory")],
+    "leads.first_way": [("document", STORE_DOC, DOC), ("at", 0, "BadIndex"), ("history", HISTORY, "BadHistory")],
+    "leads.stand_behind": [("document", STORE_DOC, DOC), ("stand", FIRST, "BadStand"), ("call", "put", "BadCall"),
+                           ("answer", "ok", "BadAnswer")],
+    "stands.stands": [("document", STORE_DOC, DOC)],
+    "stands.history_to": [("document", STORE_DOC, DOC), ("stand", FIRST, "BadStand")],
+    "ranks.rank_of": [("document", STORE_DOC, DOC), ("stand", FIRST, "BadStand")],
+    "ranks.safe": [("document", STORE_DOC, DOC)],
+    "ranks.is_sound": [("document", STORE_DOC, DOC)],
+    "papers.is_closed": [("document", STORE_DOC, DOC), ("thing", (), None)],
+    "papers.is_ranked": [("document", STORE_DOC, DOC), ("thing", (), None)],
+    "papers.closed_table": [("document", STORE_DOC, DOC)],
+    "papers.ranked_list": [("document", STORE_DOC, DOC)],
+    "quarrels.part_of": [("document", STORE_DOC, DOC), ("names", ["store"], "BadNames")],
+    "quarrels.quarrels": [("document", STORE_DOC, DOC)],
+    "quarrels.ways_out": [("document", STORE_DOC, DOC)],
+    "meanings.is_meaning": [("thing", MEANING, None)],
+    "meanings.meaning": [("document", STORE_DOC, DOC)],
+    "meanings.document_of": [("said", MEANING, "BadMeaning"), ("name", "k", "BadName")],
+    "meanings.alike": [("document", STORE_DOC, DOC), ("other", STORE_DOC, DOC)],
+    "meanings.disputed": [("document", STORE_DOC, DOC), ("other", ("document", STORE, ()), DOC)],
+    "futures.futures": [("document", STORE_DOC, DOC), ("k", 2, "BadCount")],
+    "futures.future": [("document", STORE_DOC, DOC), ("k", 2, "BadCount"), ("number", 1, "BadNumber")],
+    "futures.number_of": [("document", STORE_DOC, DOC), ("k", 0, "BadCount"), ("told", (), "BadFuture")],
+    "futures.future_of": [("program", MADE, PROG), ("k", 2, "BadCount")],
+    "normals.normal": [("program", MADE, PROG)],
+    "normals.parting": [("program", MADE, PROG), ("other", MADE, PROG)],
+    "normals.likeness": [("program", MADE, PROG), ("other", MADE, PROG)],
+    "normals.is_likeness": [("program", MADE, PROG), ("other", MADE, PROG), ("thing", ((0, 0), (1, 1)), None)],
+    "rights.verdict": [("document", STORE_DOC, DOC), ("program", MADE, PROG)],
+    "rights.is_right_table": [("document", STORE_DOC, DOC), ("program", MADE, PROG), ("thing", (), None)],
+    "makers.made": [("document", STORE_DOC, DOC)],
+    "makers.kept": [("document", STORE_DOC, DOC), ("histories", [HISTORY], "BadHistories")],
+    "makers.only": [("document", STORE_DOC, DOC)],
+    "makers.clause_of": [("program", MADE, PROG), ("name", "k", "BadName")],
+    "drafts.is_refutation": [("document", STORE_DOC, DOC), ("m", 1, "BadMany"), ("thing", (), None)],
+    "drafts.fewest": [("document", STORE_DOC, DOC), ("most", 2, "BadMost")],
+    "opponents.broken_by": [("document", samples.QUARREL_DOC, DOC), ("program", samples.ring(ONE, 1, ()), PROG)],
+    "opponents.holder": [("document", STORE_DOC, DOC)],
+    "runs.run": [("program", MADE, PROG), ("rule", TAKES, LAW), ("script", (0, 1), "BadScript")],
+    "runs.asked": [("program", MADE, PROG), ("rule", TAKES, LAW), ("script", (), "BadScript")],
+    "overs.over": [("program", MADE, PROG), ("rule", TAKES, LAW)],
+    "overs.is_table": [("program", MADE, PROG), ("rule", TAKES, LAW), ("thing", (), None)],
+}
+
+
+def function(name):
+    module, _, word = name.partition(".")
+    return getattr(importlib.import_module("saidandasked." + module), word)
+
+
+class Conventions(unittest.TestCase):
+    def test_names(self):
+        for name, told in TABLE.items():
+            asked = function(name)
+            self.assertTrue(inspect.isfunction(asked), name)
+            self.assertEqual(asked.__module__, "saidandasked." + name.partition(".")[0])
+            self.assertEqual(list(inspect.signature(asked).parameters), [word for word, _, _ in told], name)
+
+    def test_by_position_and_by_name(self):
+        for name, told in TABLE.items():
+            asked = function(name)
+            values = [copy.deepcopy(value) for _, value, _ in told]
+            before = copy.deepcopy(values)
+            one = asked(*values)
+            self.assertEqual(one, asked(**{word: value for word, value, _ in reversed(told)}), name)
+            for at in range(len(told) + 1):
+                rest = {word: value for word, value, _ in told[at:]}
+                self.assertEqual(one, asked(*values[:at], **rest), name)
+            self.assertEqual(values, before, name)
+            self.assertEqual(repr(values), repr(before), name)
+            self.assertEqual(repr(one), repr(asked(*values)), name)
+
+    def test_judged_values(self):
+        for name, told in TABLE.items():
+            if told[-1][2] is None:
+                values = [value for _, value, _ in told]
+                self.assertIs(type(function(name)(*values)), bool, name)
+                for thing in ODD:
+                    before = repr(thing)
+                    self.assertIs(type(function(name)(*values[:-1], thing)), bool, name)
+                    self.assertEqual(repr(thing), before)
+
+    def wrong_ones(self, name, told, at):
+        """Values that are wrong for the parameter with the index at, all others being good."""
+        values = [value for _, value, _ in told]
+        found = []
+        for thing in ODD:
+            if told[at][0] == "k" and type(thing) is int and thing > 20:
+                continue
+            try:
+                function(name)(*values[:at], thing, *values[at + 1:])
+            except errors.PageError as error:
+                if type(error).__name__ == told[at][2]:
+                    found.append(thing)
+        return found
+
+    def test_errors_from_left_to_right(self):
+        for name, told in TABLE.items():
+            values = [value for _, value, _ in told]
+            for at, (_, _, error) in enumerate(told):
+                if error is None:
+                    continue
+                wrong = self.wrong_ones(name, told, at)
+                self.assertGreater(len(wrong), 30, name)
+                for other in (None, {}, "never", -1, [[]]):
+                    for thing in wrong[::3]:
+                        with self.assertRaises(getattr(errors, error), msg=name):
+                            function(name)(*values[:at], thing, *[other for _ in values[at + 1:]])
+
+    def test_other_houses_come_last(self):
+        rule = ("law", TURNED, 1, (("true",),))
+        free, turned = ("document", samples.TWO, ()), ("document", TURNED, ())
+        one, two = samples.ring(samples.TWO, 1, ()), samples.ring(TURNED, 1, ())
+        for name, values in (("meanings.alike", (free, turned)), ("meanings.disputed", (free, turned)),
+                             ("normals.parting", (one, two)), ("normals.likeness", (one, two)),
+                             ("normals.is_likeness", (one, two, ())), ("rights.verdict", (free, two)),
+                             ("rights.is_right_table", (free, two, ())), ("opponents.broken_by", (free, two)),
+                             ("runs.run", (one, rule, ())), ("runs.asked", (one, rule, ())),
+                             ("overs.over", (one, rule)), ("overs.is_table", (one, rule, ()))):
+            with self.assertRaises(errors.OtherHouse):
+                function(name)(*values)
+            for at, (_, _, error) in enumerate(TABLE[name]):
+                if error is not None:
+                    with self.assertRaises(getattr(errors, error)):
+                        function(name)(*values[:at], None, *values[at + 1:])
+
+    def test_lists_are_taken_for_tuples_only_where_lists_are_told(self):
+        for name, told in TABLE.items():
+            values = [value for _, value, _ in told]
+            for at, (word, value, error) in enumerate(told):
+                if word in ("names", "histories"):
+                    for kind in (list, tuple):
+                        self.assertEqual(function(name)(*values[:at], kind(value), *values[at + 1:]),
+                                         function(name)(*values), name)
+                elif isinstance(value, tuple) and error is not None:
+                    with self.assertRaises(getattr(errors, error), msg=name):
+                        function(name)(*values[:at], list(value), *values[at + 1:])
+                elif isinstance(value, tuple):
+                    self.assertIs(function(name)(*values[:at], list(value)), False, name)
+
+
+if __name__ == "__main__":
+    unittest.main()
