@@ -57,7 +57,8 @@ def grow(graph):
     at = 0
     while at < len(graph.found):
         leads = []
-        for letter, stand in enumerate(table.behind(graph.found[at])):
+        behind = table.behind(graph.found[at])
+        for letter, stand in enumerate(behind):
             leads.append(met(graph, at, letter, stand))
         graph.moves.append(cut(leads, table.answer_names))
         at += 1

@@ -21,10 +21,9 @@ def is_house(thing):
     """Whether any value is a house."""
     if not is_told(thing, "house", 2):
         return False
-    calls = thing[1]
-    if not isinstance(calls, tuple) or not 1 <= len(calls) <= 5:
+    if not isinstance(thing[1], tuple) or not all(is_call(call) for call in thing[1]):
         return False
-    return all(is_call(call) for call in calls) and are_names(call_names(thing), 5)
+    return are_names(call_names(thing), 5)
 
 
 def call_names(house):

@@ -3,7 +3,6 @@
 from saidandasked.beginnings import Beginnings, first_parted
 from saidandasked.errors import BadHistories, BadProgram
 from saidandasked.freenames import free_names
-from saidandasked.graphs import BROKEN
 from saidandasked.houses import call_names, is_history
 from saidandasked.kinds import is_list
 from saidandasked.needs import need_name, need_program
@@ -43,7 +42,7 @@ def first_entry(graph, stand, call, start):
 
 
 def stands_of(graph, tree):
-    """The index of the stand behind each beginning; BROKEN for broken ones and behind these."""
+    """The index of the stand behind each beginning, none of which is broken."""
     found = [0] * len(tree.steps)
     for at, steps in enumerate(tree.steps):
         for call, (answer, to) in steps.items():
@@ -52,9 +51,7 @@ def stands_of(graph, tree):
 
 
 def stand_after(graph, at, pair):
-    """The index of the stand to which the pair leads, BROKEN for a broken one and from BROKEN."""
-    if at == BROKEN:
-        return BROKEN
+    """The index of the stand to which the pair leads, BROKEN for a broken one."""
     return graph.index_of(graph.table.step(graph.found[at], pair[0], pair[1]))
 
 

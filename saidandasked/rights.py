@@ -14,7 +14,8 @@ def verdict(document, program):
     walk = Walk((0, table.first))
     at = 0
     while at < len(walk.found):
-        for call, there in zip(table.call_names, pairs_behind(table, program, walk.found[at])):
+        behind = pairs_behind(table, program, walk.found[at])
+        for call, there in zip(table.call_names, behind):
             if is_broken(there[1]):
                 return "breaks", tuple(walk.way(at)) + (call,), there[1].index(0)
             walk.meet(there, at, call)

@@ -288,6 +288,18 @@ def right(document, program):
     return True
 
 
+def unlike_states(program):
+    """For each state the number of its part, when all that is unlike is parted again and again."""
+    part = [tuple(answer for answer, _ in row) for row in program[2]]
+    while True:
+        finer = [(part[at], tuple(part[to] for _, to in row)) for at, row in enumerate(program[2])]
+        number = {told: at for at, told in enumerate(dict.fromkeys(finer))}
+        finer = [number[told] for told in finer]
+        if len(set(finer)) == len(set(part)):
+            return finer
+        part = finer
+
+
 def programs(house, most):
     """All programs of at most so many states."""
     for many in range(1, most + 1):

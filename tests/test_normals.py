@@ -101,6 +101,25 @@ class Normals(unittest.TestCase):
             self.assertEqual(normal(program), normal(other))
             self.assertIsNone(parting(program, other))
 
+    def test_parts_of_many_states(self):
+        import random
+        for seed in range(300):
+            draw = random.Random(seed)
+            many = draw.randint(6, 40)
+            rare = draw.choice((0.05, 0.1, 0.3))
+            rows = tuple(tuple(("y" if draw.random() < rare else "x", draw.randrange(max(0, at - 3), many))
+                               for _ in range(2)) for at in range(many))
+            program = ("program", TWO, rows)
+            part = plain.unlike_states(program)
+            place, order = {part[0]: 0}, [0]
+            for at in order:
+                for _, to in rows[at]:
+                    if part[to] not in place:
+                        place[part[to]] = len(order)
+                        order.append(to)
+            told = tuple(tuple((answer, place[part[to]]) for answer, to in rows[at]) for at in order)
+            self.assertEqual(normal(program), ("program", TWO, told))
+
     def test_hundreds_of_states(self):
         self.assertEqual(len(normal(ring(TWO, 400, (7,)))[2]), 400)
         self.assertEqual(len(normal(ring(TWO, 400, tuple(range(0, 400, 4))))[2]), 4)

@@ -227,14 +227,14 @@ class Overs(unittest.TestCase):
 
     def test_by_hand(self):
         self.assertEqual(over(MADE, TAKES), ("true", ((0, (0,), 2), (1, (1,), 1), (2, (1,), 0))))
-        self.assertEqual(over(MADE, ENDLESS), ("never", ()))
+        self.assertEqual(self.check(MADE, ENDLESS), "never")
         self.assertEqual(over(MADE, COPIES), ("true", (
             (0, (0, 0), 5), (1, (1, 0), 4), (2, (1, 0), 3), (3, (1, 1), 2), (4, (1, 1), 1), (6, (1, 1), 0))))
         again = TAKES[:3] + (TAKES[3][:2] + (("ask", 0, "take", (4, 3)), ("false",), ("true",)),)
         self.assertEqual(over(MADE, again)[0], "true")
         empties = ("program", STORE, ((("ok", 1), ("none", 0)), (("ok", 1), ("ok", 0))))
-        self.assertEqual(over(empties, again), ("falls", ()))
-        self.assertEqual(run(empties, again, ()), ("false", 3))
+        self.assertEqual(self.check(empties, again), "falls")
+        self.assertEqual(run(empties, again, over(empties, again)[1]), ("false", 3))
 
     def test_all(self):
         seen = {"falls": 0, "never": 0, "true": 0}
@@ -247,7 +247,7 @@ class Overs(unittest.TestCase):
         # To go round again and again by other draws than the first is no run: a script ends.
         rule = ("law", ONE, 1, (("draw", (1, 0)), ("true",)))
         self.assertEqual(over(program, rule), ("true", ((0, (0,), 1), (1, (0,), 0))))
-        self.assertEqual(over(program, ("law", ONE, 1, (("draw", (0, 1)), ("true",)))), ("never", ()))
+        self.assertEqual(self.check(program, ("law", ONE, 1, (("draw", (0, 1)), ("true",)))), "never")
         # What falls goes ahead of what never ends; what never ends may want a script.
         self.assertEqual(self.check(program, ("law", ONE, 1, (("draw", (0, 1)), ("false",)))), "falls")
         rule = ("law", ONE, 1, (("draw", (1, 2)), ("true",), ("draw", (0, 0, 3)), ("ask", 0, "c", (3, 3))))
@@ -268,7 +268,8 @@ class Overs(unittest.TestCase):
         self.assertEqual(told[0], "true")
         self.assertEqual(max(row[2] for row in told[1]), len(told[1]) - 1)
         self.assertTrue(is_table(program, rule, told[1]))
-        self.assertEqual(over(ring(ONE, 399, ()), rule), ("never", ()))
+        told = over(ring(ONE, 399, ()), rule)
+        self.assertEqual((told[0], run(ring(ONE, 399, ()), rule, told[1])[0]), ("never", "never"))
 
     def test_tables(self):
         for program, rule in cases(60):
