@@ -72,10 +72,12 @@ class Draft:
         return state, self.graph.breaking_call(stand)
 
     def narrowest_entry(self):
-        """The first of the open entries that can be filled in the fewest ways; None if there is none."""
+        """One of the open entries that can be filled in the fewest ways; None if there is none."""
         best = None
         fewest = None
-        for state, call in self.sketch.open_entries():
+        # Of equal ones a state with many stands is the first: there most words come to their ends.
+        order = sorted(self.sketch.open_entries(), key=lambda entry: -len(self.stands[entry[0]]))
+        for state, call in order:
             many = self.ways_to_fill(state, call, fewest)
             if fewest is None or many < fewest:
                 best = (state, call)
