@@ -1,24 +1,23 @@
 """The stands that come, with their ranks, by numbers."""
 
 from saidandasked.tables import Table, is_broken
+from saidandasked.walks import Walk
 
 # In the place of the index of a stand: the pair leads to a broken one.
 BROKEN = -1
 
 
 class Graph:
-    """The unbroken stands that come from some first ones, known by their indexes, as met."""
+    """The unbroken stands that come from a first one, known by their indexes, as met."""
 
     def __init__(self, table, first):
         self.table = table
-        self.found = list(first)
-        self.number = {stand: at for at, stand in enumerate(first)}
+        # The steps of the walk are the numbers of pairs.
+        self.walk = Walk(first)
         # For each stand, for each call, in order, the stands behind its answers.
-        self.moves = []
-        # How a stand was met: the index of the one ahead of it and the number of the pair.
-        self.met_by = [None] * len(first)
-        grow(self)
-        # The rank of each stand, None of a safe one, and the first call that leads to lesser ones.
+        self.moves = moves_of(table, self.walk)
+        self.found = self.walk.found
+        # The rank of each stand, None of a safe one.
         self.ranks = ranks_of(self.moves)
 
     def is_held(self, at):
@@ -48,31 +47,25 @@ class Graph:
 
     def index_of(self, stand):
         """The index of a stand by numbers; BROKEN if it is broken or does not come."""
-        return self.number.get(stand, BROKEN)
+        return self.walk.number.get(stand, BROKEN)
 
 
-def grow(graph):
-    """Meet all stands, one behind another, by calls, then by answers."""
-    table = graph.table
+def moves_of(table, walk):
+    """The moves of all stands, which are met one behind another, by calls, then by answers."""
+    moves = []
     at = 0
-    while at < len(graph.found):
+    while at < len(walk.found):
         leads = []
-        behind = table.behind(graph.found[at])
+        behind = table.behind(walk.found[at])
         for letter, stand in enumerate(behind):
-            leads.append(met(graph, at, letter, stand))
-        graph.moves.append(cut(leads, table.answer_names))
+            if is_broken(stand):
+                leads.append(BROKEN)
+            else:
+                walk.meet(stand, at, letter)
+                leads.append(walk.number[stand])
+        moves.append(cut(leads, table.answer_names))
         at += 1
-
-
-def met(graph, at, letter, stand):
-    """The index of a stand that is met behind the one with the index at."""
-    if is_broken(stand):
-        return BROKEN
-    if stand not in graph.number:
-        graph.number[stand] = len(graph.found)
-        graph.found.append(stand)
-        graph.met_by.append((at, letter))
-    return graph.number[stand]
+    return moves
 
 
 def cut(leads, by_call):
@@ -126,14 +119,4 @@ def lower(ranks, left, ranked, arrow, rank):
 def graph_of(document):
     """The graph of the stands of the document that come from the first one."""
     table = Table(document)
-    return Graph(table, [table.first])
-
-
-def way_to(graph, at):
-    """The list of the numbers of the pairs of the history by which the stand was met."""
-    found = []
-    while graph.met_by[at] is not None:
-        at, letter = graph.met_by[at]
-        found.append(letter)
-    found.reverse()
-    return found
+    return Graph(table, table.first)

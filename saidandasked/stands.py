@@ -1,7 +1,7 @@
 """The stands that come, and the histories that lead to them."""
 
 from saidandasked.errors import BadStand, NotMet
-from saidandasked.graphs import BROKEN, graph_of, way_to
+from saidandasked.graphs import BROKEN, graph_of
 from saidandasked.needs import need_document
 
 
@@ -23,4 +23,4 @@ def history_to(document, stand):
     if at == BROKEN:
         raise NotMet("the stand does not come")
     # Stands are met in the order of their first histories.
-    return tuple(graph.table.pairs[letter] for letter in way_to(graph, at))
+    return tuple(graph.table.pairs[letter] for letter in graph.walk.way(at))
