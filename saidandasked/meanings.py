@@ -43,7 +43,7 @@ def is_in_order(by_call, rows):
     moves = [row_moves(by_call, row) for row in rows]
     if met_from(0, moves) != list(range(len(rows))):
         return False
-    return len(set(merged_rows(moves))) == len(rows)
+    return len(set(merged([0] * len(rows), moves))) == len(rows)
 
 
 def row_moves(by_call, row):
@@ -55,23 +55,15 @@ def row_moves(by_call, row):
     return found
 
 
-def merged_rows(moves):
-    """As merged, for rows some of whose moves are -1, which is no row."""
-    nowhere = len(moves)
-    whole = [[nowhere if to < 0 else to for to in steps] for steps in moves]
-    whole.append([nowhere] * len(moves[0]))
-    return merged([True] * nowhere + [False], whole)[:nowhere]
-
-
 def meaning(document):
     """The meaning of the document."""
     need_document(document)
     graph = graph_of(document)
     if not graph.is_held_first():
         return ("meaning", document[1], ())
-    # Stands that are not safe stand in no row: their moves lead nowhere, and nothing leads to them.
+    # Nothing leads to stands that are not safe, so no row stands for one of them.
     moves = [held_moves(graph, at) for at in range(len(graph.found))]
-    numbers = merged_rows(moves)
+    numbers = merged([0] * len(moves), moves)
     sources = first_of_each(numbers)
     by_number = {part: [numbers[to] if to >= 0 else -1 for to in moves[sources[part]]] for part in sources}
     order = met_from(numbers[0], by_number)

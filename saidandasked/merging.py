@@ -69,7 +69,8 @@ def states_ahead(moves):
 def merged(colours, moves):
     """For each state a number, the same for two that have the same colour and so on behind all moves.
 
-    Each state has as many moves, to any states; nothing else is asked of the colours than to be keys.
+    Each state has as many moves, to other states or, told by -1, to nowhere: that is alike to itself alone.
+    Nothing else is asked of the colours than to be keys.
     """
     parts = Parts(colours, moves)
     parts.refine()

@@ -50,6 +50,27 @@ class Meanings(unittest.TestCase):
             for history in plain.histories(document[1], 3)[:150]:
                 self.assertEqual(has(said, history), plain.held(document, history))
 
+    def test_rows_go_with_stands(self):
+        for document in samples.small_documents() + samples.drawn_documents(150, 300):
+            said = meaning(document)
+            known = plain.ranks(document)
+            if not plain.sound(document):
+                self.assertEqual(said, ("meaning", document[1], ()))
+                continue
+            self.assertTrue(plain.meaning_form(said))
+            met = [(0, plain.first_stand(document))]
+            for at, stand in met:
+                for call, told in zip(plain.calls(document[1]), said[2][at]):
+                    good = []
+                    for answer in plain.answers_of(document[1], call):
+                        there = plain.stand_after(document, stand, call, answer)
+                        if () not in there and known[there] is None:
+                            good.append((answer, there))
+                    self.assertEqual([pair[0] for pair in told], [pair[0] for pair in good])
+                    for (_, to), (_, there) in zip(told, good):
+                        if (to, there) not in met:
+                            met.append((to, there))
+
     def test_wording_means_nothing(self):
         clause = STORE_DOC[2][0]
         renamed = ("clause", "q", ("b", "a"), tuple(
