@@ -1,6 +1,6 @@
 """The stands that come, with their ranks, by numbers."""
 
-from saidandasked.tables import Table, is_broken
+from saidandasked.tables import Table, is_broken, stand_key
 from saidandasked.walks import Walk
 
 # In the place of the index of a stand: the pair leads to a broken one.
@@ -8,12 +8,14 @@ BROKEN = -1
 
 
 class Graph:
-    """The unbroken stands that come from a first one, known by their indexes, as met."""
+    """The unbroken stands that come from some first ones, known by their indexes, as met."""
 
-    def __init__(self, table, first):
+    def __init__(self, table, firsts):
         self.table = table
         # The steps of the walk are the numbers of pairs.
-        self.walk = Walk(first)
+        self.walk = Walk(firsts[0])
+        for stand in firsts:
+            self.walk.begin(stand)
         # For each stand, for each call, in order, the stands behind its answers.
         self.moves = moves_of(table, self.walk)
         self.found = self.walk.found
@@ -48,6 +50,29 @@ class Graph:
     def index_of(self, stand):
         """The index of a stand by numbers; BROKEN if it is broken or does not come."""
         return self.walk.number.get(stand, BROKEN)
+
+    def index_seen(self, thing):
+        """The index of the stand that any value tells; BROKEN if it tells none, a broken one, or one not met."""
+        stand = self.table.seen(thing)
+        return BROKEN if stand is None else self.index_of(stand)
+
+    def shown(self, at):
+        """The stand with this index as it is told."""
+        return self.table.shown(self.found[at])
+
+    def key(self, at):
+        """What the stand with this index is compared by."""
+        return stand_key(self.found[at])
+
+    def held_steps(self, at):
+        """For each pair that leads from the stand to a safe one, in order, the triple (call, answer, index)."""
+        found = []
+        for call, leads in enumerate(self.moves[at]):
+            for answer, to in enumerate(leads):
+                if self.is_held(to):
+                    pair = (self.table.call_names[call], self.table.answer_names[call][answer])
+                    found.append(pair + (to,))
+        return found
 
 
 def moves_of(table, walk):
@@ -118,5 +143,11 @@ def lower(ranks, left, ranked, arrow, rank):
 
 def graph_of(document):
     """The graph of the stands of the document that come from the first one."""
+    return graph_with(document, [])
+
+
+def graph_with(document, things):
+    """As graph_of, but that some further values, where they tell unbroken stands, are met behind the first one."""
     table = Table(document)
-    return Graph(table, table.first)
+    stands = [table.seen(thing) for thing in things]
+    return Graph(table, [table.first] + [stand for stand in stands if stand is not None and not is_broken(stand)])

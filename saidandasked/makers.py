@@ -3,6 +3,7 @@
 from saidandasked.beginnings import Beginnings, first_parted
 from saidandasked.errors import BadHistories, BadProgram
 from saidandasked.freenames import free_names
+from saidandasked.graphs import BROKEN
 from saidandasked.houses import call_names, is_history
 from saidandasked.kinds import is_list
 from saidandasked.needs import need_name, need_program
@@ -18,40 +19,67 @@ def made(document):
 
 def made_with(graph, histories):
     """As made, but for the words of histories that agree and have safe stands on their ways."""
-    tree = Beginnings(histories)
-    start = len(tree.steps)
-    # The states are the beginnings first, then the stands.
+    return made_along(graph, Beginnings(histories).steps, first_held)
+
+
+def made_round(graph, way, ring):
+    """As made, but that it makes the way and then the ring again and again; all stands on them are safe."""
+    pairs = way + ring
+    steps = [{call: (answer, at + 1)} for at, (call, answer) in enumerate(pairs)]
+    call, answer = pairs[-1]
+    steps[-1] = {call: (answer, len(way))}
+    return made_along(graph, steps, first_held)
+
+
+def made_along(graph, steps, choose):
+    """The normal program with some states that are told, which gives a chosen answer wherever nothing is told.
+
+    For each told state there is the dict from the calls that are told there to (answer, told state), and each
+    comes behind one ahead of it. What is chosen is the index of an answer, of a stand and a call.
+    """
+    start = len(steps)
+    # The states are the told ones first, then the stands.
     rows = []
-    for steps, stand in zip(tree.steps, stands_of(graph, tree)):
+    for told, stand in zip(steps, stands_of(graph, steps)):
         entries = []
         for call, name in enumerate(graph.table.call_names):
-            entries.append(steps[name] if name in steps else first_entry(graph, stand, call, start))
+            entries.append(told[name] if name in told else chosen_entry(graph, stand, call, start, choose))
         rows.append(tuple(entries))
     for stand, calls in enumerate(graph.moves):
-        rows.append(tuple(first_entry(graph, stand, call, start) for call in range(len(calls))))
+        rows.append(tuple(chosen_entry(graph, stand, call, start, choose) for call in range(len(calls))))
     return normal(("program", graph.table.house, tuple(rows)))
 
 
-def first_entry(graph, stand, call, start):
-    """The first answer that leads to a safe stand, with the state of that stand, these beginning at start."""
+def chosen_entry(graph, stand, call, start, choose):
+    """The chosen answer with the state of the stand behind it, these beginning at start."""
+    if stand == BROKEN:
+        # Behind a broken stand nothing is wanted any more.
+        return graph.table.answer_names[call][0], start
+    answer = choose(graph, stand, call)
+    return graph.table.answer_names[call][answer], start + max(graph.moves[stand][call][answer], 0)
+
+
+def first_held(graph, stand, call):
+    """The index of the first answer that leads to a safe stand."""
     held = graph.held_answers(stand, call)
-    # No word comes to a stand that is not safe, so there any entry will do.
-    answer = held[0] if held else 0
-    to = graph.moves[stand][call][answer]
-    return graph.table.answer_names[call][answer], start + max(to, 0)
+    # No word comes to a stand that is not safe, so there any answer will do.
+    return held[0] if held else 0
 
 
-def stands_of(graph, tree):
-    """The index of the stand behind each beginning, none of which is broken."""
-    found = [0] * len(tree.steps)
-    for at, steps in enumerate(tree.steps):
-        for call, (answer, to) in steps.items():
+def stands_of(graph, steps):
+    """The index of the stand behind each told state, BROKEN behind broken ones."""
+    found = [0] * len(steps)
+    for at, told in enumerate(steps):
+        for call, (answer, to) in told.items():
+            # A ring leads back to a state whose stand is known, and it is the same one.
             found[to] = stand_after(graph, found[at], (call, answer))
     return found
 
 
 def stand_after(graph, at, pair):
-    """The index of the stand to which the pair leads, BROKEN for a broken one."""
+    """The index of the stand to which the pair leads, BROKEN for a broken one and behind one."""
+    if at == BROKEN:
+        return BROKEN
     return graph.index_of(graph.table.step(graph.found[at], pair[0], pair[1]))
 
 

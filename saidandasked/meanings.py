@@ -5,7 +5,7 @@ from saidandasked.freenames import free_names
 from saidandasked.graphs import graph_of
 from saidandasked.houses import answer_names, call_names, is_house
 from saidandasked.kinds import is_index, is_string_among, is_told, is_tuple_of, rises
-from saidandasked.merging import first_of_each, merged, met_from
+from saidandasked.merging import least_moves, merged, met_from
 from saidandasked.needs import need_document, need_documents, need_name
 from saidandasked.walks import Walk
 
@@ -63,13 +63,13 @@ def meaning(document):
         return ("meaning", document[1], ())
     # Nothing leads to stands that are not safe, so no row stands for one of them.
     moves = [held_moves(graph, at) for at in range(len(graph.found))]
-    numbers = merged([0] * len(moves), moves)
-    sources = first_of_each(numbers)
-    by_number = {part: [numbers[to] if to >= 0 else -1 for to in moves[sources[part]]] for part in sources}
-    order = met_from(numbers[0], by_number)
-    place = {part: at for at, part in enumerate(order)}
-    rows = [told_row(graph.table, by_number[part], place) for part in order]
-    return ("meaning", document[1], tuple(rows))
+    return said_by_moves(document[1], moves)
+
+
+def said_by_moves(house, moves):
+    """The meaning by which just the histories come that lead from 0 on and never to nowhere."""
+    rows = [row_told(house, steps) for steps in least_moves(moves)]
+    return ("meaning", house, tuple(rows))
 
 
 def held_moves(graph, at):
@@ -77,13 +77,15 @@ def held_moves(graph, at):
     return [to if graph.is_held(to) else -1 for leads in graph.moves[at] for to in leads]
 
 
-def told_row(table, steps, place):
+def row_told(house, steps):
     """The row of a meaning whose answers lead so."""
-    by_call = {name: [] for name in table.call_names}
-    for (call, answer), to in zip(table.pairs, steps):
-        if to >= 0:
-            by_call[call].append((answer, place[to]))
-    return tuple(tuple(by_call[name]) for name in table.call_names)
+    found = []
+    start = 0
+    for names in answer_names(house):
+        leads = steps[start:start + len(names)]
+        found.append(tuple((answer, to) for answer, to in zip(names, leads) if to >= 0))
+        start += len(names)
+    return tuple(found)
 
 
 def document_of(said, name):

@@ -98,3 +98,13 @@ def first_of_each(numbers):
         if number not in found:
             found[number] = at
     return found
+
+
+def least_moves(moves):
+    """The moves of the fewest states by which the same steps lead from state 0 on, and never to nowhere, -1."""
+    numbers = merged([0] * len(moves), moves)
+    sources = first_of_each(numbers)
+    by_number = {part: [numbers[to] if to >= 0 else -1 for to in moves[sources[part]]] for part in sources}
+    order = met_from(numbers[0], by_number)
+    place = {part: at for at, part in enumerate(order)}
+    return [[place[to] if to >= 0 else -1 for to in by_number[part]] for part in order]

@@ -1,7 +1,7 @@
 """What is wanted of the things that are passed, with the error for each."""
 
 from saidandasked.clauses import is_document
-from saidandasked.errors import BadDocument, BadHistory, BadLaw, BadName, BadProgram, OtherHouse
+from saidandasked.errors import BadDocument, BadDocuments, BadHistory, BadLaw, BadName, BadProgram, OtherHouse
 from saidandasked.houses import is_history
 from saidandasked.lawforms import is_law
 from saidandasked.programs import is_program
@@ -63,3 +63,22 @@ def need_document_and_program(document, program):
     need_document(document)
     need_program(program)
     need_one_house(document, program)
+
+
+def need_document_and_rule(document, rule):
+    """What a document and a law that are passed together must be."""
+    need_document(document)
+    need_rule(rule)
+    need_one_house(document, rule)
+
+
+def need_document_and_others(document, others):
+    """What a document and a tuple of 1 to 3 others that are passed together must be."""
+    need_document(document)
+    if not isinstance(others, tuple) or not 1 <= len(others) <= 3:
+        raise BadDocuments(None)
+    for at, other in enumerate(others):
+        if not is_document(other):
+            raise BadDocuments(at)
+    for other in others:
+        need_one_house(document, other)

@@ -2,8 +2,8 @@
 
 from saidandasked.errors import Sound
 from saidandasked.graphs import BROKEN, graph_of
+from saidandasked.makers import made_along
 from saidandasked.needs import need_document, need_document_and_program
-from saidandasked.normals import normal
 
 
 def broken_by(document, program):
@@ -27,22 +27,17 @@ def broken_by(document, program):
 def holder(document):
     """A program that gives, at each stand, answers that lead to the greatest ranks, and to safe stands first."""
     need_document(document)
-    graph = graph_of(document)
-    rows = []
-    for calls in graph.moves:
-        entries = [holding_entry(graph, names, leads) for names, leads in zip(graph.table.answer_names, calls)]
-        rows.append(tuple(entries))
-    return normal(("program", document[1], tuple(rows)))
+    return made_along(graph_of(document), [], longest_held)
 
 
-def holding_entry(graph, names, leads):
-    """The first of the answers behind which the stand holds longest, and its state."""
+def longest_held(graph, stand, call):
+    """The index of the first of the answers behind which the stand holds longest."""
+    leads = graph.moves[stand][call]
     best = 0
     for answer, to in enumerate(leads):
         if holds_longer(graph.rank_after(to), graph.rank_after(leads[best])):
             best = answer
-    # Behind a broken stand nothing is wanted any more.
-    return names[best], max(leads[best], 0)
+    return best
 
 
 def holds_longer(rank, other):

@@ -15,7 +15,7 @@ def rank_of(document, stand):
         raise BadStand("no stand by its form")
     if is_broken(here):
         return 0
-    return Graph(table, here).ranks[0]
+    return Graph(table, [here]).ranks[0]
 
 
 def safe(document):

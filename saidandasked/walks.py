@@ -9,6 +9,13 @@ class Walk:
         self.number = {first: 0}
         self.came_by = [None]
 
+    def begin(self, thing):
+        """Meet one more thing to which no step leads."""
+        if thing not in self.number:
+            self.number[thing] = len(self.found)
+            self.found.append(thing)
+            self.came_by.append(None)
+
     def meet(self, thing, at, step):
         """Meet a thing by a step from the one with the index at."""
         if thing not in self.number:

@@ -150,6 +150,30 @@ def drawn_law(seed, house, objects, many):
     return ("law", house, objects, tuple(nodes))
 
 
+def drawn_outer(seed, most=8):
+    """An outer thing: wait nodes, and behind each call a tree of inner nodes that ends in answers."""
+    draw = random.Random(seed)
+    names = draw.sample(["c", "d", "e", "put", "q"], draw.randint(2, 5))
+    cut = draw.randint(1, len(names) - 1)
+    calls = [("call", name, tuple(draw.sample(["no", "yes", "x", "ok"], draw.randint(1, 3)))) for name in names]
+    house, inner = ("house", tuple(calls[:cut])), ("house", tuple(calls[cut:]))
+    waits = draw.randint(1, 2)
+    nodes = [None] * waits
+    for at in range(waits):
+        nexts = []
+        for call in house[1]:
+            # A chain of inner nodes, each of whose nexts are behind it.
+            chain = draw.randint(0, most // 2)
+            start = len(nodes)
+            nexts.append(start)
+            for step in range(start, start + chain):
+                asked = draw.choice(inner[1])
+                nodes.append(("inner", asked[1], tuple(draw.randint(step + 1, start + chain) for _ in asked[2])))
+            nodes.append(("answer", draw.choice(call[2]), draw.randrange(waits)))
+        nodes[at] = ("wait", tuple(nexts))
+    return ("outer", house, inner, tuple(nodes))
+
+
 def nested(many):
     told = ()
     for _ in range(many):

@@ -15,6 +15,7 @@ PROG = "BadProgram"
 FIRST = (("empty",),)
 HISTORY = (("put", "ok"),)
 MEANING = ("meaning", ONE, (((("x", 0),),),))
+POOL = (("clause", "some", ("p",), ()), ("clause", "more", ("p",), ()))
 OUTER = ("outer", ONE, STORE, (("wait", (1,)), ("answer", "x", 0)))
 
 # For each function its parameters: the name, a good value, and the error for others (None: any value is judged).
@@ -77,6 +78,38 @@ TABLE = {
     "runs.asked": [("program", MADE, PROG), ("rule", TAKES, LAW), ("script", (), "BadScript")],
     "overs.over": [("program", MADE, PROG), ("rule", TAKES, LAW)],
     "overs.is_table": [("program", MADE, PROG), ("rule", TAKES, LAW), ("thing", (), None)],
+    "verdicts.law_verdict": [("document", STORE_DOC, DOC), ("rule", TAKES, LAW)],
+    "verdicts.is_law_verdict": [("document", STORE_DOC, DOC), ("rule", TAKES, LAW), ("thing", (), None)],
+    "durations.most_steps": [("document", STORE_DOC, DOC), ("rule", TAKES, LAW), ("many", 3, "BadMany")],
+    "chains.one_of": [("laws", [TAKES, TAKES], "BadLaws")],
+    "chains.then": [("one", TAKES, LAW), ("other", TAKES, LAW)],
+    "chains.ends": [("document", STORE_DOC, DOC), ("rule", TAKES, LAW), ("stand", FIRST, "BadStand")],
+    "chains.true_from": [("document", STORE_DOC, DOC), ("rule", TAKES, LAW)],
+    "reading.can_follow": [("text", "house", "BadText")],
+    "reading.read": [("text", "house call c: x", "BadText")],
+    "reading.read_clause": [("house", STORE, "BadHouse"), ("text", "clause k: p", "BadText")],
+    "texts.text_of": [("thing", STORE_DOC, "BadThing")],
+    "texts.clause_text": [("house", STORE, "BadHouse"), ("clause", STORE_CLAUSE, "BadClause")],
+    "ends.forced": [("text", "house", "BadText")],
+    "ends.shortest_end": [("text", "house", "BadText")],
+    "alike.renamed": [("thing", STORE_DOC, "BadThing"), ("names", {"put": "add"}, "BadNames")],
+    "alike.is_like": [("one", STORE_DOC, "BadThing"), ("other", STORE_DOC, "BadThing")],
+    "covers.cover": [("document", STORE_DOC, DOC), ("others", (STORE_DOC,), "BadDocuments")],
+    "covers.escape": [("document", STORE_DOC, DOC), ("others", (STORE_DOC,), "BadDocuments")],
+    "covers.is_cover": [("document", STORE_DOC, DOC), ("others", (STORE_DOC,), "BadDocuments"), ("thing", (), None)],
+    "covers.is_escape": [("document", STORE_DOC, DOC), ("others", (STORE_DOC,), "BadDocuments"), ("thing", (), None)],
+    "narrow.apart": [("one", STORE_DOC, DOC), ("other", STORE_DOC, DOC)],
+    "narrow.narrowing": [("one", STORE_DOC, DOC), ("other", STORE_DOC, DOC)],
+    "narrow.is_narrowing": [("one", STORE_DOC, DOC), ("other", STORE_DOC, DOC), ("thing", (), None)],
+    "pools.with_clauses": [("document", STORE_DOC, DOC), ("pool", POOL, "BadPool"), ("chosen", (1,), "BadSet")],
+    "pools.enough": [("document", STORE_DOC, DOC), ("pool", POOL, "BadPool"), ("wanted", STORE_DOC, DOC)],
+    "pools.silent": [("document", STORE_DOC, DOC), ("pool", POOL, "BadPool"), ("wanted", STORE_DOC, DOC)],
+    "pools.cores": [("document", STORE_DOC, DOC)],
+    "pools.idle": [("document", STORE_DOC, DOC)],
+    "meets.both": [("one", STORE_DOC, DOC), ("other", STORE_DOC, DOC)],
+    "meets.either": [("one", STORE_DOC, DOC), ("other", STORE_DOC, DOC)],
+    "meets.mixing": [("one", STORE_DOC, DOC), ("other", STORE_DOC, DOC)],
+    "meets.mixing_place": [("one", STORE_DOC, DOC), ("other", STORE_DOC, DOC)],
 }
 
 
@@ -148,12 +181,23 @@ class Conventions(unittest.TestCase):
         rule = ("law", TURNED, 1, (("true",),))
         free, turned = ("document", samples.TWO, ()), ("document", TURNED, ())
         one, two = samples.ring(samples.TWO, 1, ()), samples.ring(TURNED, 1, ())
-        for name, values in (("meanings.alike", (free, turned)), ("meanings.disputed", (free, turned)),
-                             ("normals.parting", (one, two)), ("normals.likeness", (one, two)),
-                             ("normals.is_likeness", (one, two, ())), ("rights.verdict", (free, two)),
-                             ("rights.is_right_table", (free, two, ())), ("opponents.broken_by", (free, two)),
-                             ("runs.run", (one, rule, ())), ("runs.asked", (one, rule, ())),
-                             ("overs.over", (one, rule)), ("overs.is_table", (one, rule, ()))):
+        laws, pairs = ("law", TURNED, 1, (("false",),)), (free, turned)
+        cases = [(name, pairs) for name in (
+            "meanings.alike", "meanings.disputed", "narrow.apart", "narrow.narrowing", "meets.both", "meets.either",
+            "meets.mixing", "meets.mixing_place")]
+        cases += [(name, (free, rule)) for name in ("verdicts.law_verdict", "chains.true_from")]
+        cases += [("covers.cover", (free, (turned,))), ("covers.escape", (free, (free, turned))),
+                  ("covers.is_cover", (free, (turned,), ())), ("covers.is_escape", (free, (turned,), ())),
+                  ("narrow.is_narrowing", (free, turned, ())), ("verdicts.is_law_verdict", (free, laws, ())),
+                  ("durations.most_steps", (free, laws, 3)), ("chains.ends", (free, laws, ())),
+                  ("chains.then", (("law", samples.TWO, 1, (("true",),)), laws)),
+                  ("pools.enough", (free, (), turned)), ("pools.silent", (free, (), turned)),
+                  ("normals.parting", (one, two)), ("normals.likeness", (one, two)),
+                  ("normals.is_likeness", (one, two, ())), ("rights.verdict", (free, two)),
+                  ("rights.is_right_table", (free, two, ())), ("opponents.broken_by", (free, two)),
+                  ("runs.run", (one, rule, ())), ("runs.asked", (one, rule, ())),
+                  ("overs.over", (one, rule)), ("overs.is_table", (one, rule, ()))]
+        for name, values in cases:
             with self.assertRaises(errors.OtherHouse):
                 function(name)(*values)
             for at, (_, _, error) in enumerate(TABLE[name]):
@@ -164,8 +208,8 @@ class Conventions(unittest.TestCase):
     def test_lists_are_taken_for_tuples_only_where_lists_are_told(self):
         for name, told in TABLE.items():
             values = [value for _, value, _ in told]
-            for at, (word, value, error) in enumerate(told):
-                if word in ("names", "histories"):
+            for at, (_, value, error) in enumerate(told):
+                if isinstance(value, list):
                     for kind in (list, tuple):
                         self.assertEqual(function(name)(*values[:at], kind(value), *values[at + 1:]),
                                          function(name)(*values), name)
