@@ -106,7 +106,8 @@ class Dealing:
         while len(self.ways) < len(self.found):
             at = len(self.ways)
             self.ways.append({})
-            for triple, there in claims.all_steps(self.found[at]):
+            steps = claims.all_steps(self.found[at])
+            for triple, there in steps:
                 if not there[1]:
                     done.append((at, triple))
                     continue

@@ -8,8 +8,8 @@ def forced(text):
     """The longest tuple of words with which every whole text goes on that begins with those of this one."""
     passage = passed(Passage(Opening()), text)
     found = []
-    while not passage.is_whole() and passage.wants().single() is not None:
-        found.append(passage.wants().single())
+    while not passage.is_whole() and passage.wants().only_word() is not None:
+        found.append(passage.wants().only_word())
         passage.take(found[-1])
     return tuple(found)
 

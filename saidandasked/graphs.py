@@ -30,6 +30,10 @@ class Graph:
         """Whether the first stand is safe."""
         return self.is_held(0)
 
+    def held_index(self, at):
+        """The index of a stand if it is safe, otherwise -1."""
+        return at if self.is_held(at) else -1
+
     def held_answers(self, at, call):
         """The indexes of the call's answers behind which the stand is safe."""
         return [answer for answer, to in enumerate(self.moves[at][call]) if self.is_held(to)]

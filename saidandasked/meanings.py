@@ -62,8 +62,7 @@ def meaning(document):
     if not graph.is_held_first():
         return ("meaning", document[1], ())
     # Nothing leads to stands that are not safe, so no row stands for one of them.
-    moves = [held_moves(graph, at) for at in range(len(graph.found))]
-    return said_by_moves(document[1], moves)
+    return said_by_moves(document[1], all_held_moves(graph))
 
 
 def said_by_moves(house, moves):
@@ -72,9 +71,9 @@ def said_by_moves(house, moves):
     return ("meaning", house, tuple(rows))
 
 
-def held_moves(graph, at):
-    """For each call and answer the index of the safe stand to which they lead, or -1."""
-    return [to if graph.is_held(to) else -1 for leads in graph.moves[at] for to in leads]
+def all_held_moves(graph):
+    """For each stand, for each call and answer, the index of the safe stand to which they lead, or -1."""
+    return [[graph.held_index(to) for leads in calls for to in leads] for calls in graph.moves]
 
 
 def row_told(house, steps):

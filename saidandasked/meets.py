@@ -4,13 +4,11 @@ from saidandasked.clauses import clause_names
 from saidandasked.covers import escape
 from saidandasked.errors import SameName, Unsound
 from saidandasked.graphs import graph_of
-from saidandasked.meanings import document_of, held_moves, said_by_moves
+from saidandasked.meanings import all_held_moves, document_of, said_by_moves
+from saidandasked.merging import either_moves
 from saidandasked.needs import need_documents
 from saidandasked.pools import joined_clauses, need_few_clauses
 from saidandasked.walks import Walk
-
-# In the place of the index of a stand: the history is not held.
-LOST = -1
 
 
 def both(one, other):
@@ -31,32 +29,13 @@ def both(one, other):
 def either(one, other):
     """The document that holds just the histories that one or the other holds."""
     need_documents(one, other)
-    graphs = [graph_of(one), graph_of(other)]
-    first = tuple(0 if graph.is_held_first() else LOST for graph in graphs)
-    if first == (LOST, LOST):
+    left = graph_of(one)
+    right = graph_of(other)
+    first = (left.held_index(0), right.held_index(0))
+    if first == (-1, -1):
         raise Unsound("neither document is sound")
-    return document_of(said_by_moves(one[1], either_moves(graphs, first)), "either")
-
-
-def either_moves(graphs, first):
-    """The moves through the pairs of stands, of which one or both are held, as met."""
-    many = len(graphs[0].table.pairs)
-    known = [[held_moves(graph, at) for at in range(len(graph.found))] + [[LOST] * many] for graph in graphs]
-    walk = Walk(first)
-    moves = []
-    while len(moves) < len(walk.found):
-        at = len(moves)
-        here, there = walk.found[at]
-        steps = []
-        # Index -1 is the last one, which leads nowhere.
-        for pair in zip(known[0][here], known[1][there]):
-            if pair == (LOST, LOST):
-                steps.append(LOST)
-            else:
-                walk.meet(pair, at, None)
-                steps.append(walk.number[pair])
-        moves.append(steps)
-    return moves
+    moves = either_moves(all_held_moves(left), all_held_moves(right), first)
+    return document_of(said_by_moves(one[1], moves), "either")
 
 
 def mixing(one, other):

@@ -1,5 +1,8 @@
 """States that nothing tells apart become one, and are numbered as they are met."""
 
+# Neither of two states is anywhere.
+BOTH_NOWHERE = (-1, -1)
+
 
 class Parts:
     """States in parts, which are split until two states of a part are alike."""
@@ -108,3 +111,61 @@ def least_moves(moves):
     order = met_from(numbers[0], by_number)
     place = {part: at for at, part in enumerate(order)}
     return [[place[to] if to >= 0 else -1 for to in by_number[part]] for part in order]
+
+
+def moves_from(first, behind, nowhere, most):
+    """The moves of all states that are met from the first one, numbered as met, -1 in the place of nowhere.
+
+    What is behind a state is told by a list of states. None is returned as soon as it is sure that most states are
+    too few for what they do; most is None if any number will do.
+    """
+    found = [first]
+    number = {first: 0, nowhere: -1}
+    moves = []
+    look = 256
+    while len(moves) < len(found):
+        states = behind(found[len(moves)])
+        for state in states:
+            if state not in number:
+                number[state] = len(found)
+                found.append(state)
+        moves.append([number[state] for state in states])
+        if most is not None and len(moves) == look:
+            look *= 4
+            if are_more_than(most, moves):
+                return None
+    return moves
+
+
+def are_more_than(most, moves):
+    """Whether more than so many states are surely unlike, what is behind some of them being unknown yet."""
+    # Alike so far are those that a few steps do not tell apart; and those with unknown states ahead are left out.
+    alike = {to: 0 for steps in moves for to in steps}
+    alike[-1] = -1
+    many = 0
+    left = len(alike)
+    while left:
+        number = {}
+        closer = {-1: -1}
+        for state, steps in enumerate(moves):
+            if all(to in alike for to in steps):
+                closer[state] = number.setdefault(tuple(alike[to] for to in steps), len(number))
+        if len(number) > most:
+            return True
+        if len(number) <= many and len(closer) == left:
+            return False
+        many = len(number)
+        left = len(closer) if number else 0
+        alike = closer
+    return False
+
+
+def either_moves(one, two, first):
+    """The moves of the pairs of states of which one or both are somewhere, as met from the first pair.
+
+    One and two are lists of moves, and -1 stands for nowhere, from where nothing leads on.
+    """
+    nowhere = [-1] * len((one + two)[0])
+    # The index -1 is that of the last state, which is nowhere.
+    known = (one + [nowhere], two + [nowhere])
+    return moves_from(first, lambda pair: list(zip(known[0][pair[0]], known[1][pair[1]])), BOTH_NOWHERE, None)

@@ -60,8 +60,12 @@ def least_sets(many, is_good):
 
 def greatest_without(many, least):
     """The list of the greatest sets of so many things that have none of these sets within them."""
-    free = [part for part in lots_of(many) if not holds_one(part, least)]
-    return [part for part in free if not any(len(other) > len(part) and holds_one(other, [part]) for other in free)]
+    return greatest_of([part for part in lots_of(many) if not holds_one(part, least)])
+
+
+def greatest_of(sets):
+    """The list of those sets that are not within a greater one."""
+    return [part for part in sets if not any(len(other) > len(part) and holds_one(other, [part]) for other in sets)]
 
 
 def need_wanted(document, pool, wanted):

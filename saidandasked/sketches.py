@@ -36,17 +36,30 @@ class Sketch:
         return [(state, call) for state in range(self.named) for call in calls
                 if self.entries[state][call] is None]
 
-    def steps_on(self, word):
-        """The list of the pairs of the indexes of the calls and answers on the word, or None if one is not told."""
+    def followed(self, word):
+        """The list of the pairs of the indexes of calls and answers on the word, and the first entry not filled."""
         found = []
         state = 0
         for name in word:
             call = self.call_names.index(name)
             if self.entries[state][call] is None:
-                return None
+                return found, (state, call)
             answer, state = self.entries[state][call]
             found.append((call, answer))
-        return found
+        return found, None
+
+    def steps_on(self, word):
+        """The list of the pairs of the indexes of the calls and answers on the word, or None if one is not told."""
+        found, stop = self.followed(word)
+        return found if stop is None else None
+
+    def steps_told(self, word):
+        """As steps_on, but only so far as entries are filled."""
+        return self.followed(word)[0]
+
+    def stop_on(self, word):
+        """The first entry to which the word comes and that is not filled, or None."""
+        return self.followed(word)[1]
 
     def whole(self):
         """The program of the named states, all of whose entries are filled."""

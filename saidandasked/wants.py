@@ -46,7 +46,7 @@ class Wants:
         # The least number of a state or a node wants the fewest of them to come.
         return str(self.runs[0][0])
 
-    def single(self):
+    def only_word(self):
         """The only word that can stand; None if there is none or more than one."""
         numbers = sum([most - least + 1 for least, most in self.runs])
         if self.taken is not None or len(self.words) + numbers != 1:

@@ -7,7 +7,7 @@ import unittest
 
 from saidandasked import errors
 from tests import samples
-from tests.samples import MADE, ODD, ONE, STORE, STORE_CLAUSE, STORE_DOC, TAKES, TURNED
+from tests.samples import ENDLESS, MADE, ODD, ONE, STORE, STORE_CLAUSE, STORE_DOC, TAKES, TURNED
 
 LAW = "BadLaw"
 DOC = "BadDocument"
@@ -16,6 +16,7 @@ FIRST = (("empty",),)
 HISTORY = (("put", "ok"),)
 MEANING = ("meaning", ONE, (((("x", 0),),),))
 POOL = (("clause", "some", ("p",), ()), ("clause", "more", ("p",), ()))
+SUITE = (("put",), ("take", "take"))
 OUTER = ("outer", ONE, STORE, (("wait", (1,)), ("answer", "x", 0)))
 
 # For each function its parameters: the name, a good value, and the error for others (None: any value is judged).
@@ -110,6 +111,43 @@ TABLE = {
     "meets.either": [("one", STORE_DOC, DOC), ("other", STORE_DOC, DOC)],
     "meets.mixing": [("one", STORE_DOC, DOC), ("other", STORE_DOC, DOC)],
     "meets.mixing_place": [("one", STORE_DOC, DOC), ("other", STORE_DOC, DOC)],
+    "readings.readings": [("document", STORE_DOC, DOC)],
+    "readings.read_by": [("document", STORE_DOC, DOC), ("program", MADE, PROG)],
+    "readings.follower": [("document", STORE_DOC, DOC), ("program", MADE, PROG)],
+    "readings.unread": [("document", STORE_DOC, DOC)],
+    "halves.halves": [("document", STORE_DOC, DOC), ("pool", POOL, "BadPool"), ("laws", (TAKES,), "BadLaws")],
+    "halves.is_halves": [("document", STORE_DOC, DOC), ("pool", POOL, "BadPool"), ("laws", (TAKES,), "BadLaws"),
+                         ("thing", (), None)],
+    "halves.reasons": [("document", STORE_DOC, DOC), ("rule", TAKES, LAW)],
+    "barring.bars": [("rule", TAKES, LAW), ("history", HISTORY, "BadHistory")],
+    "barring.normal_clause": [("house", STORE, "BadHouse"), ("clause", STORE_CLAUSE, "BadClause")],
+    "barring.law_clause": [("rule", TAKES, LAW), ("name", "k", "BadName")],
+    "lawmaking.law_of": [("house", STORE, "BadHouse"), ("clause", STORE_CLAUSE, "BadClause")],
+    "lawmaking.fair": [("document", STORE_DOC, DOC), ("rule", TAKES, LAW)],
+    "promises.asks": [("document", STORE_DOC, DOC), ("at", 0, "BadIndex"), ("laws", [TAKES, TAKES], "BadLaws"),
+                      ("group", (0, 1), "BadGroup")],
+    "promises.missed": [("document", STORE_DOC, DOC), ("at", 0, "BadIndex"), ("laws", [TAKES], "BadLaws")],
+    "promises.is_missed": [("document", STORE_DOC, DOC), ("at", 0, "BadIndex"), ("laws", [TAKES], "BadLaws"),
+                           ("thing", (), None)],
+    "wrongs.silent_groups": [("document", STORE_DOC, DOC), ("at", 0, "BadIndex"), ("laws", [TAKES], "BadLaws")],
+    "wrongs.least_groups": [("document", STORE_DOC, DOC), ("at", 0, "BadIndex"), ("laws", [TAKES], "BadLaws")],
+    "wrongs.mirror": [("document", STORE_DOC, DOC), ("at", 0, "BadIndex"), ("laws", [TAKES], "BadLaws")],
+    "wrongs.stands_for_all": [("document", STORE_DOC, DOC), ("at", 0, "BadIndex"), ("laws", [TAKES], "BadLaws"),
+                              ("thing", (), None)],
+    "idles.idle_laws": [("laws", [TAKES, ENDLESS], "BadLaws")],
+    "idles.law_cores": [("laws", [TAKES, ENDLESS], "BadLaws")],
+    "decided.sure_stands": [("document", STORE_DOC, DOC)],
+    "decided.fine_stands": [("document", STORE_DOC, DOC), ("k", 3, "BadLimit")],
+    "decided.is_decided": [("document", STORE_DOC, DOC), ("k", 3, "BadLimit")],
+    "decided.is_lasso": [("document", STORE_DOC, DOC), ("thing", (), None)],
+    "decided.decided": [("document", STORE_DOC, DOC)],
+    "decided.late_break": [("document", STORE_DOC, DOC), ("k", 3, "BadLimit")],
+    "depths.depth": [("document", STORE_DOC, DOC), ("m", 2, "BadMany")],
+    "depths.slowest": [("document", STORE_DOC, DOC), ("m", 2, "BadMany")],
+    "suites.first_break": [("document", STORE_DOC, DOC), ("suite", SUITE, "BadSuite"), ("program", MADE, PROG)],
+    "suites.is_case_tree": [("document", STORE_DOC, DOC), ("m", 2, "BadMany"), ("suite", SUITE, "BadSuite"),
+                            ("thing", (), None)],
+    "suites.suffices": [("document", STORE_DOC, DOC), ("m", 2, "BadMany"), ("suite", SUITE, "BadSuite")],
 }
 
 
@@ -191,6 +229,10 @@ class Conventions(unittest.TestCase):
                   ("narrow.is_narrowing", (free, turned, ())), ("verdicts.is_law_verdict", (free, laws, ())),
                   ("durations.most_steps", (free, laws, 3)), ("chains.ends", (free, laws, ())),
                   ("chains.then", (("law", samples.TWO, 1, (("true",),)), laws)),
+                  ("readings.read_by", (free, two)), ("readings.follower", (free, two)),
+                  ("halves.halves", (free, (), (laws,))), ("halves.is_halves", (free, (), (laws,), ())),
+                  ("halves.reasons", (free, laws)), ("lawmaking.fair", (free, laws)),
+                  ("suites.first_break", (free, (), two)),
                   ("pools.enough", (free, (), turned)), ("pools.silent", (free, (), turned)),
                   ("normals.parting", (one, two)), ("normals.likeness", (one, two)),
                   ("normals.is_likeness", (one, two, ())), ("rights.verdict", (free, two)),
