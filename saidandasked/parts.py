@@ -196,7 +196,5 @@ def behind(names, name):
 
 
 def lets_told(words):
-    """The lets that these words of a row tell."""
-    if words == ["never"]:
-        return ()
+    """The lets that these words of a row tell; "never" has no place behind it."""
     return tuple((answer, place) for answer, place in zip(words[::3], words[1::3]))

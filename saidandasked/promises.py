@@ -99,10 +99,9 @@ def missed(document, at, laws):
 def first_breaking_way(graph, other):
     """A history that the graph holds and that breaks the other one with its last pair, on the first such word; or None.
 
-    Pairs of stands are met group by group, each group with one word, so that words come in order.
+    The first stand of the graph is safe: right programs of the document keep the laws as well. Pairs of stands are met
+    group by group, each group with one word, so that words come in order.
     """
-    if not graph.is_held_first():
-        return None
     walk = Walk((0, 0))
     groups = [[0]]
     step = 0

@@ -66,7 +66,7 @@ def number_told(word):
 def joined(one, other):
     """What is wanted by one of both; where both want something, they want words alone."""
     taken = one.taken if other.taken is None else other.taken
-    return Wants(one.words + other.words, taken, one.runs + other.runs, one.rests or other.rests)
+    return Wants(one.words + other.words, taken, one.runs + other.runs)
 
 
 def pointing(least):

@@ -4,6 +4,7 @@ import unittest
 from itertools import product
 
 from saidandasked.barring import bars, law_clause, normal_clause
+from saidandasked.chains import one_of
 from saidandasked.errors import (BadClause, BadDocument, BadHistory, BadHouse, BadLaw, BadName, ManyObjects, OtherHouse,
                                  TooMany)
 from saidandasked.lawmaking import fair, law_of
@@ -263,6 +264,18 @@ class Clauses(unittest.TestCase):
         self.assertEqual(len(law_clause(late(39), "k")[2]), 40)
         with self.assertRaises(TooMany):
             law_clause(late(40), "k")
+        # Rings that go round side by side, and bar nothing that is not barred at once: one place is enough.
+        rings = [("law", ONE, 1, tuple(("ask", 0, "c", ((at + 1) % many, many if at == 0 else (at + 1) % many))
+                                       for at in range(many)) + (("false",),)) for many in (1, 7, 8, 9)]
+        self.assertEqual(law_clause(one_of(rings), "k"), ("clause", "k", ("a",), (("a", "c", (("x", "a"),)),)))
+        with self.assertRaises(TooMany):
+            law_clause(one_of(rings[1:]), "k")
+        # What comes of draws may be far too much to be gone through.
+        wide = ("law", ONE, 1, (("draw", (1, 2)), ("ask", 0, "c", (0, 0)), ("ask", 0, "c", (3, 4)), ("true",)) + tuple(
+            ("ask", 0, "c", (at + 1,) * 2) for at in range(4, 16)) + (("ask", 0, "c", (3, 17)), ("false",)))
+        for asking in (lambda: law_clause(wide, "k"), lambda: fair(document_of_clauses(ONE, one_place("k", "c", "")), wide)):
+            with self.assertRaises(TooMany):
+                asking()
         free = document_of_clauses(ONE)
         unsound = document_of_clauses(ONE, one_place("k", "c", ""))
         self.assertEqual(fair(free, late(200)), fair(free, ("law", ONE, 1, (("true",),))))

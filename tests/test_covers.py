@@ -11,7 +11,7 @@ from saidandasked.meanings import alike
 from saidandasked.narrow import apart, is_narrowing, narrowing
 from tests import plain, samples
 from tests.samples import (FREE_DOC, MADE, ODD, ONCE_DOC, ONE, QUARREL_DOC, STORE_DOC, TURNED, TWICE_DOC, TWO, bent,
-                           one_place)
+                           one_place, ring)
 
 SMALL = samples.small_documents()
 
@@ -253,6 +253,32 @@ class Covers(unittest.TestCase):
         self.assertTrue(is_cover(document, (document,), (first, more)))
         self.assertFalse(is_cover(document, (document,), (first, ((("q",),), ((0, (("r",),)),)))))
 
+    def test_order_of_rest(self):
+        others = (TWICE_DOC, TWICE_DOC)
+        told = cover(TWICE_DOC, others)
+        first = first_claim(TWICE_DOC, others)
+        self.assertIn(first, told)
+        p, q = (("p",),), (("q",),)
+        for rest, good in ((((0, p),), True), (((1, p),), True), (((1, p), (0, p)), False), (((0, p), (0, p)), False),
+                           (((0, p), (0, q)), False), (((2, p),), False), (((-1, p),), False), (((0, ((),)),), False)):
+            things = told + ((p, rest),), told + ((p, rest), (q, tuple((at, q) for at, _ in rest)))
+            for thing in things:
+                self.assertIs(is_cover(TWICE_DOC, others, thing), cover_form(TWICE_DOC, others, thing), rest)
+            self.assertIs(is_cover(TWICE_DOC, others, things[1]), good)
+
+    def test_unsound(self):
+        # Though d has an answer that keeps for ever, no program keeps this one.
+        clause = ("clause", "k", ("p", "q"), (("p", "c", ()), ("p", "d", (("x", "q"),))))
+        document = document_of_clauses(TWO, clause)
+        others = (document_of_clauses(TWO, one_place("k", "d", "y")),)
+        self.assertEqual((cover(document, others), escape(document, others)), ((), None))
+        program = ring(TWO, 1, ())
+        self.assertFalse(is_escape(document, others, (program, (("d",),))))
+        self.assertTrue(is_escape(FREE_DOC, others, (program, (("d",),))))
+        self.assertTrue(is_escape(FREE_DOC, others, (program, (("c", "c", "d"),))))
+        for word in ((), ("c",), ("d", "d"), ("d", "c")):
+            self.assertFalse(is_escape(FREE_DOC, others, (program, (word,))))
+
     def test_errors(self):
         for asking, rest in ((cover, ()), (escape, ()), (is_cover, (None,)), (is_escape, (None,))):
             for thing in ODD:
@@ -393,6 +419,18 @@ class Narrow(unittest.TestCase):
         self.assertFalse(is_narrowing(one, document_of_clauses(TWO, one_place("k", "c", "x")), (pair,)))
         self.assertEqual(narrowing(one, other), ())
         self.assertIsNone(apart(one, other))
+        # Stands that do not come may be told as well, if they are safe.
+        places = ("clause", "k", ("p", "q", "r"), (("q", "c", (("x", "q"),)), ("r", "c", ())))
+        one, other = document_of_clauses(TWO, places), document_of_clauses(TWO, one_place("k", "c", "x"))
+        first = ((("p",),), (("p",),))
+        for stand in ("p", "q", "r"):
+            for goal in ("p", "q", "r"):
+                thing = (((("p",),), (("p",),)), (((stand,),), ((goal,),)))
+                self.assertIs(is_narrowing(one, one, thing), narrowing_form(one, one, thing))
+        self.assertTrue(is_narrowing(one, one, (first, ((("q",),), (("q",),)))))
+        self.assertTrue(is_narrowing(one, one, (first, ((("q",),), (("p",),)))))
+        self.assertFalse(is_narrowing(one, one, (first, ((("p",),), (("q",),)))))
+        self.assertFalse(is_narrowing(one, other, (first,)))
 
     def test_errors(self):
         turned = ("document", TURNED, ())

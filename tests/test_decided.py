@@ -192,6 +192,21 @@ class Decided(unittest.TestCase):
         self.assertEqual(decided(two)[0], "never")
         self.assertTrue(is_lasso(two, decided(two)))
 
+    def test_far_lassos(self):
+        # Only the last of the places comes again, and the first ones have two answers.
+        places = tuple(samples.free(9))
+        rows = [(place, "c", (("x", places[at + 1]), ("y", places[min(at + 2, 8)]))) for at, place in enumerate(places[:-1])]
+        document = document_of_clauses(ONE, ("clause", "k", places, tuple(rows) + ((places[8], "c", (("y", places[8]),)),)))
+        told = decided(document)
+        self.assertTrue(lasso_form(document, told))
+        self.assertEqual(told[2], (("c", "y"),))
+        # A ring of five stands behind a way.
+        rows = [(place, "c", (("x", places[at + 1 if at < 8 else 4]),)) for at, place in enumerate(places)]
+        document = document_of_clauses(ONE, ("clause", "k", places, tuple(rows)))
+        told = decided(document)
+        self.assertTrue(lasso_form(document, told))
+        self.assertEqual(len(told[2]) % 5 if told[1] else len(told[2]), 0)
+
     def test_lassos(self):
         count = 0
         for document in documents(60):
@@ -409,6 +424,20 @@ class Suites(unittest.TestCase):
         self.assertEqual(first_break(document, tuple(words), ring(TWO, 2, (1,))), (0, 2))
         with self.assertRaises(BadSuite):
             suffices(FREE_DOC, 2, tuple(sorted(product("cd", repeat=12))[:41]))
+
+    def with_right(self, tree):
+        """Trees like this one with ("right",) in the place of one part."""
+        yield ("right",)
+        if tree[0] == "try":
+            for at, part in enumerate(tree[3]):
+                for other in self.with_right(part):
+                    yield tree[:3] + (tree[3][:at] + (other,) + tree[3][at + 1:],)
+
+    def test_right_trees(self):
+        for document, m, suite in ((ONCE_DOC, 2, (WORD,)), (FREE_DOC, 1, ()), (FREE_DOC, 2, ()), (TWICE_DOC, 2, (WORD,))):
+            tree = suffices(document, m, suite)[1]
+            for thing in self.with_right(tree):
+                self.assertIs(is_case_tree(document, m, suite, thing), tree_form(document, m, suite, thing), thing)
 
     def test_bent_trees(self):
         for document, m, suite in ((ONCE_DOC, 2, (WORD,)), (TWICE_DOC, 1, (("c", "c"),)), (QUARREL_DOC, 1, (("c",),)),

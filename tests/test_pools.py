@@ -302,6 +302,17 @@ class Meets(unittest.TestCase):
         later = ("clause", "k", ("p", "q"), (("p", "c", (("x", "p"),)), ("p", "d", (("x", "q"), ("y", "q")))))
         self.assertEqual(mixing_place(only_d, document_of_clauses(TWO, later)), ((), "c", "d"))
         self.assertEqual(mixing_place(document_of_clauses(TWO, later), only_d), ((), "d", "c"))
+        # Each alone holds something, but only behind the same call; what neither holds is nobody's.
+        sides = [document_of_clauses(TWO, ("clause", "k", ("p", "q"), (("p", "c", ((answer, "q"),)), ("p", "d", (("x", "q"),)))))
+                 for answer in "xy"]
+        self.assertIsNone(mixing_place(*sides))
+        self.assertIsNone(mixing(*sides))
+        # Told apart only later: behind (d, x) the calls are as at first.
+        later = [document_of_clauses(TWO, ("clause", "k", ("o", "p", "q"), (
+            ("o", "c", (("y", "q"),)), ("o", "d", (("x", "p"),)), ("p", call, (("y", "q"),))))) for call in "cd"]
+        self.assertEqual(mixing_place(*later), self.place(*later))
+        self.assertEqual(mixing_place(*later), ((("d", "x"),), "c", "d"))
+        self.assertIsNotNone(mixing(*later))
         unsound = document_of_clauses(TWO, one_place("k", "c", ""))
         self.assertIsNone(mixing(only_c, unsound))
         self.assertIsNone(mixing_place(unsound, only_c))

@@ -203,7 +203,10 @@ class Words(unittest.TestCase):
         self.assertEqual(can_follow(head + "node 0 wait 5"), (",",))
         self.assertEqual(can_follow(head + "node 0 wait 0, 0"), ("END", "node"))
         self.assertEqual(can_follow(head + "node 0 ask q: "), ("1..399",))
-        nodes = " ".join(f"node {at} give x 0" for at in range(399))
+        nodes = " ".join(f"node {at} give x 0" for at in range(398))
+        self.assertEqual(can_follow(head + nodes + " node 398"), ("ask", "give", "wait"))
+        self.assertEqual(can_follow(head + nodes + " node 398 ask q: 399,"), ("399..399",))
+        nodes += " node 398 give x 0"
         self.assertEqual(can_follow(head + nodes + " node 399"), ("give", "wait"))
         # The four outer calls and the one inner call that there may be at most.
         head = "outer call a: x call b: x call c: x call d: x inner call e: x "

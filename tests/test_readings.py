@@ -306,6 +306,9 @@ class Halves(unittest.TestCase):
         self.assertEqual([at for _, at in bads], [0])
         self.assertEqual(bads[0][0], ("program", ONE, ((("y", 0),),)))
         self.assertTrue(is_halves(free, pool, (never_y,), (goods, bads + bads, quarrels)))
+        for thing in ([goods, bads, quarrels], (list(goods), bads, quarrels), (goods, list(bads), quarrels),
+                      (goods, bads, list(quarrels)), (goods, (list(bads[0]),), quarrels), (goods, (), quarrels)):
+            self.assertFalse(is_halves(free, pool, (never_y,), thing))
         # The index of a law that is false over the program is as good as another one.
         again = ("law", ONE, 1, (("false",),))
         self.assertTrue(is_halves(free, pool, (never_y, never_y), (goods, ((bads[0][0], 1),), quarrels)))
@@ -351,6 +354,7 @@ class Halves(unittest.TestCase):
         with self.assertRaises(NotTrue):
             reasons(six, ("law", ONE, 1, (("false",),)))
         self.assertEqual(reasons(document_of_clauses(ONE, *six[2][:3]), rule), ((0,), (1,), (2,)))
+        self.assertEqual(reasons(document_of_clauses(ONE, *six[2][:5]), rule), ((0,), (1,), (2,), (3,), (4,)))
 
     def test_errors(self):
         good = ("law", ONE, 1, (("true",),))

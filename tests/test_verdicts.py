@@ -262,6 +262,15 @@ class Verdicts(unittest.TestCase):
             if apart(joint, one) is None and law_verdict(one, rule)[0] == "true":
                 self.assertIn(law_verdict(joint, rule)[0], ("true", "empty"))
 
+    def test_six_draws(self):
+        free = ("document", ONE, ())
+        nodes = (("draw", (1, 2, 3, 0, 1, 4)), ("true",), ("draw", (1,)), ("ask", 0, "c", (1, 1)), ("false",))
+        told = law_verdict(free, ("law", ONE, 1, nodes))
+        self.assertEqual((told[0], told[2]), ("falls", (5,)))
+        self.assertEqual(self.check(free, ("law", ONE, 1, nodes[:4] + (("true",),))), "true")
+        self.assertEqual(self.check(free, ("law", ONE, 1, nodes[:4] + (("draw", (4,)),))), "never")
+        self.assertEqual(most_steps(free, ("law", ONE, 1, nodes[:4] + (("true",),)), 40)[0], 41)
+
     def test_falls_ahead_of_never(self):
         # It falls over the program that answers y and never ends over the one that answers x.
         rule = ("law", ONE, 1, (("ask", 0, "c", (0, 1)), ("false",)))
