@@ -270,6 +270,17 @@ class Clauses(unittest.TestCase):
         self.assertEqual(law_clause(one_of(rings), "k"), ("clause", "k", ("a",), (("a", "c", (("x", "a"),)),)))
         with self.assertRaises(TooMany):
             law_clause(one_of(rings[1:]), "k")
+        # One ring of so many places, and much that is barred by it all the same: so many answers y one behind another.
+        again = tuple(("ask", 0, "c", ((at + 1) % 7, 7 if at == 0 else (at + 1) % 7)) for at in range(7))
+        again += tuple(("ask", 0, "c", (49, at + 1)) for at in range(7, 48)) + (("false",), ("true",))
+        for many, good in ((40, True), (41, False)):
+            nodes = tuple(("ask", 0, "c", ((at + 1) % many, many if at == 0 else (at + 1) % many)) for at in range(many))
+            rule = one_of([("law", ONE, 1, nodes + (("false",),)), ("law", ONE, 1, again)])
+            if good:
+                self.assertEqual(len(law_clause(rule, "k")[2]), 40)
+            else:
+                with self.assertRaises(TooMany):
+                    law_clause(rule, "k")
         # What comes of draws may be far too much to be gone through.
         wide = ("law", ONE, 1, (("draw", (1, 2)), ("ask", 0, "c", (0, 0)), ("ask", 0, "c", (3, 4)), ("true",)) + tuple(
             ("ask", 0, "c", (at + 1,) * 2) for at in range(4, 16)) + (("ask", 0, "c", (3, 17)), ("false",)))
