@@ -27,7 +27,7 @@ class Bars:
         house = rule[1]
         self.pairs = [(call[1], answer) for call in house[1] for answer in call[2]]
         self.letter = {pair: at for at, pair in enumerate(self.pairs)}
-        self.answers = {call[1]: call[2] for call in house[1]}
+        self.by_call = {call[1]: call[2] for call in house[1]}
         self.wakeful = nodes_to_false(self.nodes)
         self.known = {}
         # For each node the asks to which draws lead from it.
@@ -62,7 +62,7 @@ class Bars:
             found = [0] * len(self.pairs)
             for at in bits_of(state):
                 node = self.nodes[at]
-                for answer, to in zip(self.answers[node[2]], node[3]):
+                for answer, to in zip(self.by_call[node[2]], node[3]):
                     letter = self.letter[(node[2], answer)]
                     goal = self.reach[to]
                     found[letter] = BARRED if BARRED in (goal, found[letter]) else found[letter] | goal

@@ -48,14 +48,14 @@ class Slowest:
 
     def __init__(self, graph):
         self.graph = graph
-        self.program = None
+        self.breaker = None
         self.word = ()
 
     def look(self, sketch):
         """Have a look at a whole sketch."""
         word = first_word(self.graph, sketch)
         if word is not None and len(word) > len(self.word):
-            self.program = sketch.whole()
+            self.breaker = sketch.whole()
             self.word = tuple(self.graph.table.call_names[call] for call in word)
 
 
@@ -77,4 +77,4 @@ def depth(document, m):
 def slowest(document, m):
     """None if the depth is 0, otherwise a program and the first word on which it breaks the document, so long."""
     found = slowest_of(document, m)
-    return None if found.program is None else (found.program, found.word)
+    return None if found.breaker is None else (found.breaker, found.word)

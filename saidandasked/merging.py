@@ -10,17 +10,17 @@ class Parts:
     def __init__(self, colours, moves):
         self.part_by_state = []
         # The states of each part, as keys, so that one can be taken out quickly.
-        self.states = []
+        self.members = []
         number = {}
         for state, colour in enumerate(colours):
             if colour not in number:
-                number[colour] = len(self.states)
-                self.states.append({})
+                number[colour] = len(self.members)
+                self.members.append({})
             self.part_by_state.append(number[colour])
-            self.states[number[colour]][state] = True
+            self.members[number[colour]][state] = True
         self.ahead = states_ahead(moves)
-        self.waiting = list(range(len(self.states)))
-        self.is_waiting = [True] * len(self.states)
+        self.waiting = list(range(len(self.members)))
+        self.is_waiting = [True] * len(self.members)
 
     def refine(self):
         """Split parts by what leads to others, until nothing is split any more."""
@@ -28,7 +28,7 @@ class Parts:
             goal = self.waiting.pop()
             self.is_waiting[goal] = False
             # The goal may be split itself meanwhile; it is looked at as it is now.
-            states = list(self.states[goal])
+            states = list(self.members[goal])
             for ahead in self.ahead:
                 self.split_by(ahead, states)
 
@@ -39,20 +39,20 @@ class Parts:
             for source in ahead.get(state, ()):
                 hit.setdefault(self.part_by_state[source], []).append(source)
         for part in hit:
-            if len(hit[part]) < len(self.states[part]):
+            if len(hit[part]) < len(self.members[part]):
                 self.cut_off(part, hit[part])
 
     def cut_off(self, part, states):
         """Make a part of its own of these states of the part."""
-        new = len(self.states)
-        self.states.append({})
+        new = len(self.members)
+        self.members.append({})
         for state in states:
-            del self.states[part][state]
-            self.states[new][state] = True
+            del self.members[part][state]
+            self.members[new][state] = True
             self.part_by_state[state] = new
         # If the part does not wait, the lesser of both is enough.
         self.is_waiting.append(False)
-        if self.is_waiting[part] or len(states) <= len(self.states[part]):
+        if self.is_waiting[part] or len(states) <= len(self.members[part]):
             self.is_waiting[new] = True
             self.waiting.append(new)
         else:

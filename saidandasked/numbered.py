@@ -9,7 +9,7 @@ class Numbered(Part):
     """Lines that begin with one word and their number. Numbers that are told must come."""
 
     def __init__(self, word):
-        Part.__init__(self)
+        super().__init__()
         self.opener = word
 
     def starters(self):
@@ -36,7 +36,7 @@ class States(Numbered):
     """The states of a program."""
 
     def __init__(self, house):
-        Numbered.__init__(self, "state")
+        super().__init__("state")
         self.call_names = call_names(house)
         self.answer_names = answer_names(house)
 
@@ -62,9 +62,9 @@ class LawNodes(Numbered):
     """The nodes of a law."""
 
     def __init__(self, house, objects):
-        Numbered.__init__(self, "node")
-        self.answers = answers_by_call(house)
-        self.calls = cheapest_first(self.answers)
+        super().__init__("node")
+        self.by_call = answers_by_call(house)
+        self.calls = cheapest_first(self.by_call)
         self.objects = objects
 
     def after_number(self, number, words):
@@ -90,7 +90,7 @@ class LawNodes(Numbered):
         """What is wanted behind these words of an ask."""
         if len(words) < 4:
             return (Wants(runs=((0, self.objects - 1),)), Wants(self.calls), Wants((":",)))[len(words) - 1]
-        return listing(len(words) - 4, len(self.answers[words[2]]), least)
+        return listing(len(words) - 4, len(self.by_call[words[2]]), least)
 
     def after_copy(self, least, words):
         """What is wanted behind these words of a copy."""
@@ -129,12 +129,12 @@ class OuterNodes(Numbered):
     """The nodes of an outer thing."""
 
     def __init__(self, house, inner):
-        Numbered.__init__(self, "node")
+        super().__init__("node")
         self.many = len(house[1])
         # Of the answers of all calls each name once.
         self.given = tuple({name: True for names in answer_names(house) for name in names})
-        self.answers = answers_by_call(inner)
-        self.calls = cheapest_first(self.answers)
+        self.by_call = answers_by_call(inner)
+        self.calls = cheapest_first(self.by_call)
 
     def after_number(self, number, words):
         """What is wanted behind the number of a node and these words."""
@@ -148,7 +148,7 @@ class OuterNodes(Numbered):
             return (Wants(self.given), pointing(0), Wants(rests=True))[len(words) - 1]
         if len(words) < 3:
             return (Wants(self.calls), Wants((":",)))[len(words) - 1]
-        return listing(len(words) - 3, len(self.answers[words[1]]), number + 1)
+        return listing(len(words) - 3, len(self.by_call[words[1]]), number + 1)
 
     def line_told(self, words):
         """The node that these words tell."""

@@ -60,7 +60,7 @@ class Calls(Part):
     """CALLS, with some words ahead of them, and names that no call may have."""
 
     def __init__(self, most, names, ahead):
-        Part.__init__(self)
+        super().__init__()
         self.most = most
         self.names = names
         self.ahead = ahead
@@ -106,23 +106,23 @@ class Clauses(Part):
     """CLAUSE so many times. Its lines are the first ones of clauses, and rows."""
 
     def __init__(self, house, least, most):
-        Part.__init__(self)
+        super().__init__()
         self.call_names = call_names(house)
-        self.answers = answers_by_call(house)
+        self.by_call = answers_by_call(house)
         self.least = least
         self.most = most
         self.heads = []
         # The rows of the last clause.
-        self.rows = []
+        self.row_lines = []
 
     def begun(self):
         """Note that a line is begun."""
         line = self.lines[-1]
         if line[0] == "clause":
             self.heads.append(line)
-            self.rows = []
+            self.row_lines = []
         else:
-            self.rows.append(line)
+            self.row_lines.append(line)
 
     def places(self):
         """The places of the last clause."""
@@ -133,9 +133,9 @@ class Clauses(Part):
         words = ("clause",) if len(self.heads) < self.most else ()
         if not self.heads:
             return Wants(words)
-        if not self.rows:
+        if not self.row_lines:
             return Wants(self.places() + words)
-        place, call = self.rows[-1][:2]
+        place, call = self.row_lines[-1][:2]
         # Only behind the last call the place has no further row.
         rest = behind(self.places(), place)
         return Wants((rest if call == self.call_names[-1] else (place,) + rest) + words)
@@ -151,13 +151,13 @@ class Clauses(Part):
         if len(words) == 2:
             return Wants((":",))
         if len(words) == 3:
-            return Wants(("never",) + self.answers[words[1]])
-        return self.after_lets(self.answers[words[1]], words[3:])
+            return Wants(("never",) + self.by_call[words[1]])
+        return self.after_lets(self.by_call[words[1]], words[3:])
 
     def later_calls(self, place):
         """The calls that can stand behind the place of the last row."""
-        if len(self.rows) > 1 and self.rows[-2][0] == place:
-            return behind(self.call_names, self.rows[-2][1])
+        if len(self.row_lines) > 1 and self.row_lines[-2][0] == place:
+            return behind(self.call_names, self.row_lines[-2][1])
         return self.call_names
 
     def after_lets(self, answers, words):

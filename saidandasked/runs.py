@@ -10,7 +10,7 @@ class Steps:
     """A law over a program, whose sites are pairs of the node and the tuple of the objects' states."""
 
     def __init__(self, program, rule):
-        self.rows = program[2]
+        self.state_rows = program[2]
         self.nodes = rule[3]
         self.first = (0, (0,) * rule[2])
         self.call_number = {name: at for at, name in enumerate(call_names(program[1]))}
@@ -19,7 +19,7 @@ class Steps:
     def entry(self, site):
         """The answer and the state behind, of the ask at this site."""
         node = self.nodes[site[0]]
-        return self.rows[site[1][node[1]]][self.call_number[node[2]]]
+        return self.state_rows[site[1][node[1]]][self.call_number[node[2]]]
 
     def behind(self, site):
         """The list of the sites behind, of a draw one for each next, of an end none."""

@@ -59,7 +59,7 @@ def suffices(document, m, suite):
     tree = cases.tree()
     if tree is not None:
         return "all", tree
-    return "missed", cases.program, cases.word
+    return "missed", cases.breaker, cases.word
 
 
 class Cases:
@@ -70,7 +70,7 @@ class Cases:
         self.suite = suite
         self.sketch = sketch
         # A program that is missed, with its first word.
-        self.program = None
+        self.breaker = None
         self.word = None
 
     def is_broken_by(self, at):
@@ -111,7 +111,7 @@ class Cases:
             word = first_word(self.graph, self.sketch)
             if word is None:
                 return ("right",)
-            self.program = self.sketch.whole()
+            self.breaker = self.sketch.whole()
             self.word = tuple(self.graph.table.call_names[call] for call in word)
             return None
         return self.tried(entry[0], entry[1])

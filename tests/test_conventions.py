@@ -6,6 +6,8 @@ import inspect
 import unittest
 
 from saidandasked import errors
+from saidandasked.narrow import narrowing
+from saidandasked.verdicts import law_verdict
 from tests import samples
 from tests.samples import ENDLESS, MADE, ODD, ONE, STORE, STORE_CLAUSE, STORE_DOC, TAKES, TURNED
 
@@ -17,6 +19,7 @@ HISTORY = (("put", "ok"),)
 MEANING = ("meaning", ONE, (((("x", 0),),),))
 POOL = (("clause", "some", ("p",), ()), ("clause", "more", ("p",), ()))
 SUITE = (("put",), ("take", "take"))
+RING = samples.ring(STORE, 2, (1,))
 OUTER = ("outer", ONE, STORE, (("wait", (1,)), ("answer", "x", 0)))
 
 # For each function its parameters: the name, a good value, and the error for others (None: any value is judged).
@@ -148,6 +151,36 @@ TABLE = {
     "suites.is_case_tree": [("document", STORE_DOC, DOC), ("m", 2, "BadMany"), ("suite", SUITE, "BadSuite"),
                             ("thing", (), None)],
     "suites.suffices": [("document", STORE_DOC, DOC), ("m", 2, "BadMany"), ("suite", SUITE, "BadSuite")],
+    "gaps.gap": [("document", STORE_DOC, DOC), ("suite", SUITE, "BadSuite")],
+    "misses.fewest_words": [("document", STORE_DOC, DOC), ("m", 1, "BadMany"), ("k", 3, "BadLimit")],
+    "misses.is_miss_tree": [("document", STORE_DOC, DOC), ("m", 1, "BadMany"), ("k", 3, "BadLimit"), ("n", 1, "BadCount"),
+                            ("thing", (), None)],
+    "misses.misses": [("document", STORE_DOC, DOC), ("m", 1, "BadMany"), ("k", 3, "BadLimit")],
+    "learners.learn": [("document", STORE_DOC, DOC), ("program", MADE, PROG)],
+    "tellings.told_clause": [("house", STORE, "BadHouse"), ("histories", [HISTORY], "BadHistories"), ("name", "k", "BadName")],
+    "positions.which": [("programs", [MADE, RING], "BadPrograms")],
+    "positions.is_asking_tree": [("programs", [MADE, RING], "BadPrograms"), ("thing", (), None)],
+    "positions.are_bars_of": [("programs", [MADE, RING], "BadPrograms"), ("left", 1, "BadLeft"), ("thing", (), None)],
+    "homes.home": [("program", MADE, PROG)],
+    "homes.is_homing_tree": [("program", MADE, PROG), ("thing", (), None)],
+    "homes.are_home_bars": [("program", MADE, PROG), ("left", 1, "BadLeft"), ("thing", (), None)],
+    "homes.begun_at": [("program", MADE, PROG), ("state", 1, "BadState")],
+    "mending.mended": [("document", STORE_DOC, DOC), ("program", RING, PROG)],
+    "mending.first_change": [("document", STORE_DOC, DOC), ("program", RING, PROG)],
+    "mending.mended_along": [("documents", [STORE_DOC, STORE_DOC], "BadDocuments"), ("program", RING, PROG)],
+    "mending.lasts": [("documents", [STORE_DOC, STORE_DOC], "BadDocuments"), ("program", RING, PROG)],
+    "budgets.budget": [("document", STORE_DOC, DOC), ("program", RING, PROG)],
+    "budgets.late_budget": [("document", STORE_DOC, DOC), ("program", RING, PROG)],
+    "budgets.within": [("document", STORE_DOC, DOC), ("program", MADE, PROG), ("limit", 3, "BadLimit")],
+    "spending.is_within": [("document", STORE_DOC, DOC), ("program", RING, PROG), ("limit", 3, "BadLimit"), ("thing", (), None)],
+    "spending.is_beyond": [("document", STORE_DOC, DOC), ("program", RING, PROG), ("limit", 3, "BadLimit"), ("thing", (), None)],
+    "spending.budget_paper": [("document", STORE_DOC, DOC), ("program", RING, PROG), ("limit", 3, "BadLimit")],
+    "entries.is_stop_tree": [("document", STORE_DOC, DOC), ("program", RING, PROG), ("limit", 3, "BadLimit"),
+                             ("thing", (), None)],
+    "entries.exchanged": [("document", STORE_DOC, DOC), ("program", RING, PROG), ("most", 3, "BadMost")],
+    "carrying.carried": [("one", STORE_DOC, DOC), ("other", STORE_DOC, DOC), ("rule", TAKES, LAW),
+                         ("pairs", narrowing(STORE_DOC, STORE_DOC), "BadPaper"),
+                         ("table", law_verdict(STORE_DOC, TAKES)[1], "BadPaper")],
 }
 
 
@@ -233,6 +266,12 @@ class Conventions(unittest.TestCase):
                   ("halves.halves", (free, (), (laws,))), ("halves.is_halves", (free, (), (laws,), ())),
                   ("halves.reasons", (free, laws)), ("lawmaking.fair", (free, laws)),
                   ("suites.first_break", (free, (), two)),
+                  ("learners.learn", (free, two)), ("mending.mended", (free, two)), ("mending.first_change", (free, two)),
+                  ("mending.mended_along", ([free, free], two)), ("mending.lasts", ([free, turned], one)),
+                  ("budgets.budget", (free, two)), ("budgets.late_budget", (free, two)),
+                  ("budgets.within", (free, two, 3)), ("spending.is_within", (free, two, 3, ())),
+                  ("spending.is_beyond", (free, two, 3, ())), ("spending.budget_paper", (free, two, 3)),
+                  ("entries.is_stop_tree", (free, two, 3, ())), ("entries.exchanged", (free, two, 3)),
                   ("pools.enough", (free, (), turned)), ("pools.silent", (free, (), turned)),
                   ("normals.parting", (one, two)), ("normals.likeness", (one, two)),
                   ("normals.is_likeness", (one, two, ())), ("rights.verdict", (free, two)),
