@@ -188,7 +188,7 @@ class Learner:
         for call in word[:-1]:
             states.append(rows[states[-1]][call][1])
         guessed = rows[states[-1]][word[-1]][0]
-        # Begun at the lower place, the rest of the word is answered otherwise than guessed; at the higher one it is not.
+        # Begun at the lower place, the rest of the word is answered otherwise than guessed; at the higher one not.
         low = 0
         high = len(word) - 1
         while high - low > 1:
