@@ -9,6 +9,8 @@ TURNED = ("house", (("call", "d", ("x", "y")), ("call", "c", ("x", "y"))))
 WIDE = ("house", (("call", "zoo", ("no", "yes", "maybe")), ("call", "big", ("q",)), ("call", "at", ("u", "a", "o"))))
 STORE = ("house", (("call", "put", ("ok", "full")), ("call", "take", ("ok", "none"))))
 
+GAMES = ("house", (("call", "go", ("on", "back")), ("call", "win", ("yes", "no"))))
+
 STORE_CLAUSE = ("clause", "store", ("empty", "some"), (
     ("empty", "put", (("ok", "some"),)), ("empty", "take", (("none", "empty"),)),
     ("some", "put", (("ok", "some"), ("full", "some"))), ("some", "take", (("ok", "empty"), ("ok", "some")))))

@@ -6,9 +6,10 @@ import inspect
 import unittest
 
 from saidandasked import errors
+from saidandasked.bits import pack
 from saidandasked.narrow import narrowing
 from saidandasked.verdicts import law_verdict
-from tests import samples
+from tests import plain, samples
 from tests.samples import ENDLESS, MADE, ODD, ONE, STORE, STORE_CLAUSE, STORE_DOC, TAKES, TURNED
 
 LAW = "BadLaw"
@@ -20,7 +21,11 @@ MEANING = ("meaning", ONE, (((("x", 0),),),))
 POOL = (("clause", "some", ("p",), ()), ("clause", "more", ("p",), ()))
 SUITE = (("put",), ("take", "take"))
 RING = samples.ring(STORE, 2, (1,))
-OUTER = ("outer", ONE, STORE, (("wait", (1,)), ("answer", "x", 0)))
+OUTER = ("outer", ONE, STORE, (("wait", (1,)), ("inner", "take", (2, 3)), ("answer", "x", 0), ("answer", "y", 0)))
+LOWER = ("outer", STORE, samples.GAMES, (("wait", (2, 3)), ("wait", (3, 2)), ("inner", "go", (4, 3)), ("inner", "win", (4, 4)),
+                                         ("answer", "ok", 1)))
+WANTED = ("document", ("house", ONE[1] + STORE[1]), (samples.one_place("k", "c", "xy"),))
+THING = "BadOuter"
 
 # For each function its parameters: the name, a good value, and the error for others (None: any value is judged).
 TABLE = {
@@ -181,7 +186,88 @@ TABLE = {
     "carrying.carried": [("one", STORE_DOC, DOC), ("other", STORE_DOC, DOC), ("rule", TAKES, LAW),
                          ("pairs", narrowing(STORE_DOC, STORE_DOC), "BadPaper"),
                          ("table", law_verdict(STORE_DOC, TAKES)[1], "BadPaper")],
+    "atop.led": [("outer", OUTER, THING), ("program", MADE, PROG), ("word", ("c", "c"), "BadWord")],
+    "atop.atop": [("outer", OUTER, THING), ("program", MADE, PROG)],
+    "fits.is_fit_table": [("outer", OUTER, THING), ("inner", STORE_DOC, DOC), ("wanted", WANTED, DOC), ("thing", (), None)],
+    "fits.fit": [("outer", OUTER, THING), ("inner", STORE_DOC, DOC), ("wanted", WANTED, DOC)],
+    "weakest.weakest": [("outer", OUTER, THING), ("wanted", WANTED, DOC)],
+    "images.image": [("outer", OUTER, THING), ("inner", STORE_DOC, DOC)],
+    "stacks.stacked": [("outer", OUTER, THING), ("other", LOWER, THING)],
+    "builders.built": [("inner", STORE_DOC, DOC), ("wanted", WANTED, DOC)],
+    "builders.are_bars": [("inner", STORE_DOC, DOC), ("wanted", WANTED, DOC), ("thing", (), None)],
+    "groups.together": [("document", STORE_DOC, DOC), ("histories", [HISTORY, ()], "BadHistories")],
+    "groups.is_together": [("document", STORE_DOC, DOC), ("histories", [HISTORY, ()], "BadHistories"), ("thing", (), None)],
+    "bits.pack": [("document", STORE_DOC, DOC), ("program", MADE, PROG)],
+    "bits.unpack": [("document", STORE_DOC, DOC), ("bits", pack(STORE_DOC, MADE), "BadBits")],
+    "bits.filled": [("document", STORE_DOC, DOC), ("bits", [0, 1], "BadBits")],
+    "foretold.foretold": [("document", STORE_DOC, DOC), ("bits", [0, 1], "BadBits"), ("word", ("put", "take"), "BadWord")],
 }
+
+# The whole interface.
+INTERFACE = """
+words: is_name, words_of
+houses: is_house, is_word, is_history
+clauses: is_clause, is_document
+programs: is_program, answers, history, state_behind
+lawforms: is_law
+outers: is_outer
+leads: lots_behind, is_let, broken_at, first_way, stand_behind
+stands: stands, history_to
+ranks: rank_of, safe, is_sound
+papers: is_closed, is_ranked, closed_table, ranked_list
+quarrels: part_of, quarrels, ways_out
+meanings: is_meaning, meaning, document_of, alike, disputed
+futures: futures, future, number_of, future_of
+normals: normal, parting, likeness, is_likeness
+rights: verdict, is_right_table
+makers: made, kept, only, clause_of
+drafts: is_refutation, fewest
+opponents: broken_by, holder
+runs: run, asked
+overs: over, is_table
+verdicts: law_verdict, is_law_verdict
+durations: most_steps
+chains: one_of, then, ends, true_from
+reading: can_follow, read, read_clause
+texts: text_of, clause_text
+ends: forced, shortest_end
+alike: renamed, is_like
+covers: cover, escape, is_cover, is_escape
+narrow: apart, narrowing, is_narrowing
+pools: with_clauses, enough, silent, cores, idle
+meets: both, either, mixing, mixing_place
+readings: readings, read_by, follower, unread
+halves: halves, is_halves, reasons
+barring: bars, normal_clause, law_clause
+lawmaking: law_of, fair
+promises: asks, missed, is_missed
+wrongs: silent_groups, least_groups, mirror, stands_for_all
+idles: idle_laws, law_cores
+decided: sure_stands, fine_stands, is_decided, is_lasso, decided, late_break
+depths: depth, slowest
+suites: first_break, is_case_tree, suffices
+gaps: gap
+misses: fewest_words, is_miss_tree, misses
+learners: learn
+tellings: told_clause
+positions: which, is_asking_tree, are_bars_of
+homes: home, is_homing_tree, are_home_bars, begun_at
+mending: mended, first_change, mended_along, lasts
+budgets: budget, late_budget, within
+spending: is_within, is_beyond, budget_paper
+entries: is_stop_tree, exchanged
+carrying: carried
+atop: led, atop
+fits: is_fit_table, fit
+weakest: weakest
+images: image
+stacks: stacked
+builders: built, are_bars
+groups: together, is_together
+bits: pack, unpack, filled
+foretold: foretold
+""".strip().split("\n")
+CLASSES = {"learners": "Learner", "readers": "Reader", "desk": "Desk"}
 
 
 def function(name):
@@ -190,6 +276,19 @@ def function(name):
 
 
 class Conventions(unittest.TestCase):
+    def test_interface(self):
+        names = [f"{module}.{name}" for module, _, told in (line.partition(": ") for line in INTERFACE)
+                 for name in told.split(", ")]
+        self.assertEqual(sorted(names), sorted(TABLE))
+        self.assertEqual(len(names), 162)
+        for module, name in CLASSES.items():
+            told = getattr(importlib.import_module("saidandasked." + module), name)
+            self.assertTrue(inspect.isclass(told))
+            self.assertEqual(told.__module__, "saidandasked." + module)
+        package = importlib.import_module("saidandasked")
+        self.assertEqual([name for name in vars(package) if name in names], [])
+        self.assertEqual(importlib.import_module("saidandasked.words").KEPT, tuple(sorted(plain.KEPT)))
+
     def test_names(self):
         for name, told in TABLE.items():
             asked = function(name)
@@ -272,6 +371,12 @@ class Conventions(unittest.TestCase):
                   ("budgets.within", (free, two, 3)), ("spending.is_within", (free, two, 3, ())),
                   ("spending.is_beyond", (free, two, 3, ())), ("spending.budget_paper", (free, two, 3)),
                   ("entries.is_stop_tree", (free, two, 3, ())), ("entries.exchanged", (free, two, 3)),
+                  ("atop.led", (OUTER, two, ("c",))), ("atop.atop", (OUTER, two)),
+                  ("fits.fit", (OUTER, free, WANTED)), ("fits.fit", (OUTER, STORE_DOC, free)),
+                  ("fits.is_fit_table", (OUTER, free, WANTED, ())), ("fits.is_fit_table", (OUTER, STORE_DOC, free, ())),
+                  ("weakest.weakest", (OUTER, free)), ("images.image", (OUTER, free)), ("stacks.stacked", (OUTER, OUTER)),
+                  ("builders.built", (free, WANTED)), ("builders.built", (STORE_DOC, free)),
+                  ("builders.are_bars", (free, WANTED, ())), ("bits.pack", (free, two)),
                   ("pools.enough", (free, (), turned)), ("pools.silent", (free, (), turned)),
                   ("normals.parting", (one, two)), ("normals.likeness", (one, two)),
                   ("normals.is_likeness", (one, two, ())), ("rights.verdict", (free, two)),

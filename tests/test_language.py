@@ -129,9 +129,17 @@ class Language(unittest.TestCase):
 
     def test_statements(self):
         barred = (ast.Global, ast.AsyncFunctionDef, ast.AsyncFor, ast.AsyncWith, ast.Await, ast.AnnAssign,
-                  ast.Yield, ast.YieldFrom, ast.Div, ast.MatMult, ast.NamedExpr, ast.Try, ast.With)
+                  ast.Yield, ast.YieldFrom, ast.Div, ast.MatMult, ast.NamedExpr, ast.With)
         for where, node in self.each(barred):
             self.fail(f"{where} {node}")
+        for where, node in self.each(ast.Try):
+            # Only own errors are caught, and of these nothing is read but the name of the class.
+            self.assertEqual((node.orelse, node.finalbody, len(node.handlers)), ([], [], 1), where)
+            handler = node.handlers[0]
+            self.assertEqual((handler.type.id, handler.name), ("PageError", "error"), where)
+            names = [part for part in ast.walk(handler) if isinstance(part, ast.Name) and part.id == "error"]
+            classes = [part for part in ast.walk(handler) if isinstance(part, ast.Attribute) and part.attr == "__class__"]
+            self.assertEqual(names, [part.value for part in classes], where)
         for where, node in self.each(ast.Constant):
             self.assertNotIsInstance(node.value, (float, complex), where)
         for where, node in self.each(ast.Compare):
@@ -190,7 +198,9 @@ class Language(unittest.TestCase):
         for _, node in self.each(ast.Attribute):
             if isinstance(node.ctx, ast.Store):
                 fields.add(node.attr)
-        self.assertEqual(set(), (own & fields) - {"__init__"})
+        # The interface itself has a program of TooShort and one of Reader.
+        self.assertEqual({"program"}, (own & fields) - {"__init__"})
+        fields |= {"__class__", "__name__"}
         calls = {id(node.func) for _, node in self.each(ast.Call)}
         for where, node in self.each(ast.Attribute):
             if id(node) in calls:
