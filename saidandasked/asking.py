@@ -7,7 +7,7 @@ tree of a known one), seen (the position that any value tells, or None), house.
 
 from saidandasked.graphs import BROKEN, ranks_of
 from saidandasked.houses import call_names
-from saidandasked.kinds import is_number, is_told, is_tuple_of
+from saidandasked.kinds import is_number, is_string_among, is_told, is_tuple_of
 from saidandasked.walks import Walk
 
 
@@ -150,7 +150,7 @@ def is_tree(told, first, thing):
     while ahead:
         position, tree = ahead.pop()
         if is_told(tree, "ask", 3):
-            if not isinstance(tree[1], str) or tree[1] not in calls:
+            if not is_string_among(tree[1], calls):
                 return False
             goals = told.goals(position)[calls.index(tree[1])]
             if not is_tuple_of(tree[2], len(goals)):

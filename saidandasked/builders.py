@@ -41,8 +41,9 @@ def are_bars(inner, wanted, thing):
     if not isinstance(thing, tuple) or not all(is_tuple_of(bar, 4) and isinstance(bar[3], tuple) for bar in thing):
         return False
     pairs = [pair for bar in thing for pair in bar[3] if is_tuple_of(pair, 2)]
-    graph = graph_with(inner, [bar[0] for bar in thing] + [pair[0] for pair in pairs])
-    other = graph_with(wanted, [bar[1] for bar in thing] + [pair[1] for pair in pairs])
+    # The pair of a bar itself stands in its trap.
+    graph = graph_with(inner, [pair[0] for pair in pairs])
+    other = graph_with(wanted, [pair[1] for pair in pairs])
     judged = Judged(graph, other, outer_house(inner, wanted))
     return all(judged.takes(bar) for bar in thing) and (0, 0) in judged.earlier
 
@@ -67,7 +68,7 @@ class Judged:
     def takes(self, bar):
         """Whether a tuple of four, the last one a tuple, is a bar behind the earlier ones; if so, note it."""
         first = self.seen(bar[0], bar[1])
-        if first is None or not is_string_among(bar[2], self.calls):
+        if not is_string_among(bar[2], self.calls):
             return False
         trap = [self.seen(pair[0], pair[1]) if is_tuple_of(pair, 2) else None for pair in bar[3]]
         if None in trap or not trap or trap[0] != first or len(set(trap)) < len(trap):

@@ -1,7 +1,5 @@
 """What is known of one right program from what was told of it."""
 
-from saidandasked.graphs import BROKEN
-
 
 class Hearsay:
     """The words whose answers are known, as a tree. Its nodes are known by numbers; 0 is the empty word."""
@@ -89,7 +87,7 @@ class Hearsay:
             else:
                 node = None
             stand = self.graph.moves[stand][call][answer]
-            if stand == BROKEN or not self.graph.is_held(stand):
+            if not self.graph.is_held(stand):
                 return at
         return None
 

@@ -47,7 +47,6 @@ class KnownStates:
 
 def home(program):
     """How many calls make the state known at the latest, a homing tree, and home bars."""
-    need_program(program)
     told = KnownStates(normal(program))
     asking = Asking(told, told.first)
     most = asking.rank(told.first)
@@ -56,7 +55,6 @@ def home(program):
 
 def is_homing_tree(program, thing):
     """Whether any value is a homing tree of all states."""
-    need_program(program)
     told = KnownStates(normal(program))
     return is_tree(told, told.first, thing)
 

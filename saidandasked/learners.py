@@ -4,7 +4,6 @@ from saidandasked.errors import BadAnswers, BadWord, NoDifference, NotAsked, Not
 from saidandasked.hearsay import Hearsay
 from saidandasked.houses import answers_by_call, is_word
 from saidandasked.kinds import is_list, is_string_among
-from saidandasked.needs import need_one_house, need_program
 from saidandasked.normals import normal, parting
 from saidandasked.programs import entries_of
 from saidandasked.ranks import sound_graph
@@ -213,8 +212,6 @@ def answers_on(program, word):
 def learn(document, program):
     """What a learner comes to know of the program, and the list of what it was told."""
     sound_graph(document)
-    need_program(program)
-    need_one_house(document, program)
     found = verdict(document, program)
     if found[0] == "breaks":
         raise NotRight(found[1])

@@ -6,9 +6,9 @@ A page is a tuple: a document, a history of its house, and a tuple of pairs of a
 from saidandasked.budgets import budget
 from saidandasked.clauses import clause_names
 from saidandasked.decided import is_decided
-from saidandasked.errors import BadAnswer, BadCall, BadLaw, BadName, BadProgram, BadWord, TooMany
+from saidandasked.errors import BadAnswer, BadCall, BadLaw, BadName, TooMany
 from saidandasked.futures import futures
-from saidandasked.houses import answers_by_call, is_word
+from saidandasked.houses import answers_by_call
 from saidandasked.leads import lots_behind, stand_behind
 from saidandasked.makers import made, only
 from saidandasked.narrow import is_narrower
@@ -166,11 +166,7 @@ def may_told(page, rest):
 
 def first_told(page, rest):
     """The answers that made gives to a word."""
-    program = made(page[0])
-    word = tuple(rest)
-    if not is_word(page[0][1], word):
-        raise BadWord("no word of the house")
-    return listed(answers(program, word))
+    return listed(answers(made(page[0]), tuple(rest)))
 
 
 def only_told(page, rest):
@@ -218,9 +214,7 @@ def decided_told(page, rest):
 def program_told(page, rest):
     """Whether a program is right, otherwise the word on which it breaks, and the clause."""
     document = page[0]
-    program = read(rest)
-    need_one_house(document, program)
-    found = verdict(document, program)
+    found = verdict(document, read(rest))
     if found[0] == "right":
         return "right"
     return f"breaks {listed(found[1])} {clause_names(document)[found[2]]}"
@@ -228,10 +222,7 @@ def program_told(page, rest):
 
 def budget_told(page, rest):
     """How much must be paid for a program."""
-    program = read(rest)
-    if program[0] != "program":
-        raise BadProgram("the text tells no program")
-    found = budget(page[0], program)
+    found = budget(page[0], read(rest))
     return "none" if found is None else str(found)
 
 

@@ -57,17 +57,10 @@ class Writing:
         if to == len(self.groups) or self.groups[to] | group == self.groups[to]:
             return True
         found = self.groups_with(choice)
-        return found is not None and all(self.can_go_on(state, found[state]) for state in found)
-
-    def can_go_on(self, state, group):
-        """Whether the entries of a state that are not written can be, if it comes with this group.
-
-        Of the state whose entries are being written those behind the next one are meant.
-        """
-        written = self.many_calls if state < self.state else 0
-        if state == self.state:
-            written = self.entry_call() + 1
-        return all(self.gathering.kept_answers(group, call) for call in range(written, self.many_calls))
+        if found is None:
+            return False
+        # What states ahead have is written, and no entry of it is broken.
+        return all(self.gathering.is_kept(found[state]) for state in found if state >= self.state)
 
     def groups_with(self, choice):
         """The dict of the states whose groups are other ones with this choice for the next entry.

@@ -9,6 +9,7 @@ TURNED = ("house", (("call", "d", ("x", "y")), ("call", "c", ("x", "y"))))
 WIDE = ("house", (("call", "zoo", ("no", "yes", "maybe")), ("call", "big", ("q",)), ("call", "at", ("u", "a", "o"))))
 STORE = ("house", (("call", "put", ("ok", "full")), ("call", "take", ("ok", "none"))))
 
+THREE = ("house", (("call", "c", ("x", "y", "z")),))
 GAMES = ("house", (("call", "go", ("on", "back")), ("call", "win", ("yes", "no"))))
 
 STORE_CLAUSE = ("clause", "store", ("empty", "some"), (

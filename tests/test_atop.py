@@ -41,7 +41,7 @@ def joint(outer):
     return ("house", outer[1][1] + outer[2][1])
 
 
-def drawn_thing(seed, house, inner, waits=2, most=3):
+def drawn_thing(seed, house, inner, waits=4, most=3):
     """An outer thing with nodes that may serve several calls, and some that serve none."""
     draw = random.Random(seed)
     waits = draw.randint(1, waits)
@@ -391,12 +391,21 @@ class Fits(unittest.TestCase):
 
     def test_stands_that_do_not_come(self):
         table = fit(HAND, INNER, WANTED)[1]
-        more = [(0, (("s",),), (("e",),)), (0, (("s", "t"),), (("e",),)), (0, (("t",),), (("n",),)), (0, ((),), (("e",),)),
+        more = [(2, (("t",),), (("e",),)), (3, (("t",),), (("e",),)), (0, (("t",),), ((),)), (0, (("t",),), (("s",),)),
+                (0, (("s",),), (("e",),)), (0, (("s", "t"),), (("e",),)), (0, (("t",),), (("n",),)), (0, ((),), (("e",),)),
                 (0, (("t",),), (("n", "e"),)), (1, (("t",),), (("e",),)), (0, (("t", "s"),), (("e",),))]
         for one in more:
             for other in more:
                 thing = table + ((one,) if one == other else (one, other))
                 self.assertIs(is_fit_table(HAND, INNER, WANTED, thing), table_form(HAND, INNER, WANTED, thing), thing)
+
+        # A place to which nothing leads.
+        inner = document_of_clauses(INSIDE, INNER[2][0][:2] + (("s", "t", "u", "v"), INNER[2][0][3] + (
+            ("u", "q", (("x", "t"),)), ("v", "q", (("y", "t"),)))))
+        for stands, good in (((("u",),), True), ((("u", "v"),), False), ((("v",),), False), ((("t", "u"),), True)):
+            thing = table + ((0, stands, (("e",),)),)
+            self.assertIs(is_fit_table(HAND, inner, WANTED, thing), good)
+            self.assertIs(table_form(HAND, inner, WANTED, thing), good)
 
     def test_errors(self):
         unsound = document_of_clauses(INSIDE, samples.one_place("k", "q", ()))
@@ -407,6 +416,8 @@ class Fits(unittest.TestCase):
                 if not plain.document_form(thing):
                     with self.assertRaises(BadDocument):
                         asking(HAND, thing, WANTED, *rest)
+                    with self.assertRaises(BadOuter):
+                        asking(thing, INNER, WANTED, *rest)
                     with self.assertRaises(BadDocument):
                         asking(HAND, QUARREL_DOC, thing, *rest)
             for inner, wanted in ((QUARREL_DOC, WANTED), (INNER, ASKED), (WANTED, INNER), (INNER, INNER), (unsound, ASKED),
@@ -634,8 +645,9 @@ class Stacks(unittest.TestCase):
     def test_errors(self):
         top = outer_of_all(OUTSIDE, "e")
         for thing in ODD:
-            with self.assertRaises(BadOuter):
-                stacked(thing, None)
+            for other in (None, HAND, top):
+                with self.assertRaises(BadOuter):
+                    stacked(thing, other)
             with self.assertRaises(BadOuter):
                 stacked(HAND, thing)
         for outer, other in ((HAND, HAND), (HAND, top), (HAND, outer_of_all(ONE, "w"))):

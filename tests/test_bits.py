@@ -5,7 +5,7 @@ import inspect
 import random
 import unittest
 from functools import lru_cache
-from itertools import product
+from itertools import combinations, product
 
 from saidandasked.bits import filled, pack, unpack
 from saidandasked.errors import (BadBit, BadBits, BadDocument, BadProgram, BadWord, Ended, NotDone, NotOrderly, NotRight,
@@ -53,7 +53,7 @@ def orderly_programs(house, most):
     return list(write([]))
 
 
-PROGRAMS = {ONE: orderly_programs(ONE, 6), TWO: orderly_programs(TWO, 2)}
+PROGRAMS = {ONE: orderly_programs(ONE, 6), TWO: orderly_programs(TWO, 2), RING[1]: orderly_programs(RING[1], 4)}
 
 
 @lru_cache(maxsize=2000)
@@ -84,6 +84,33 @@ def is_kept(document, first):
         if left == good:
             return first in good
         good = left
+
+
+def deep_documents(house, many):
+    """Sound documents with two stands that are not kept together, though no call breaks them at once."""
+    seed = 0
+    while many:
+        seed += 1
+        draw = random.Random(seed)
+        places = tuple(samples.free(draw.randint(4, 6)))
+        rows = []
+        for place in places:
+            for call in house[1]:
+                told = draw.choice((("x", "y"), ("x", "y"), ("x",), ("y",)))
+                rows.append((place, call[1], tuple((answer, draw.choice(places)) for answer in told)))
+        document = document_of_clauses(house, ("clause", "deep", places, tuple(rows)))
+        if plain.sound(document) and has_deep_pair(document):
+            many -= 1
+            yield document
+
+
+def has_deep_pair(document):
+    for pair in combinations(list(plain.coming(document)), 2):
+        at_once = all(any(all(() not in plain.stand_after(document, stand, call, answer) for stand in pair)
+                          for answer in plain.answers_of(document[1], call)) for call in plain.calls(document[1]))
+        if at_once and not is_kept(document, frozenset(pair)):
+            return True
+    return False
 
 
 def groups_of(document, entries):
@@ -147,6 +174,10 @@ def bits_of(document, program):
             found += code(choices.index(choice), len(choices))
             entries += (choice,)
     return found
+
+
+DEEP = {house: list(deep_documents(house, 14)) for house in (ONE, TWO)}
+SOUND += DEEP[ONE][:8] + DEEP[TWO][:4]
 
 
 def all_bits(most):
@@ -213,7 +244,7 @@ class Bits(unittest.TestCase):
 
     def test_each_list(self):
         # Each list of bits begins with those of one program, or those of some begin with it, never both.
-        for document in SOUND[::4] + [FREE_DOC, ("document", ONE, ())]:
+        for document in SOUND[::5] + [FREE_DOC, ("document", ONE, ()), RING, DEEP[ONE][0], DEEP[TWO][0]]:
             whole = {}
             for bits in all_bits(7):
                 told = self.unpacked(document, bits)
@@ -306,6 +337,18 @@ class Bits(unittest.TestCase):
                     count += 1
                     self.assertLessEqual(len(pack(both, program)), len(pack(document, program)))
         self.assertGreater(count, 50)
+
+    def test_stands_that_are_not_kept_together(self):
+        many = 0
+        for number, document in enumerate(DEEP[ONE] + DEEP[TWO]):
+            for seed in range(6):
+                program = mended(document, samples.drawn_program(number * 6 + seed, document[1], 1 + seed))
+                if len(program[2]) < 12:
+                    many += 1
+                    bits = pack(document, program)
+                    self.assertEqual(bits, bits_of(document, program))
+                    self.assertEqual(unpack(document, bits), program)
+        self.assertGreater(many, 80)
 
     def test_two_calls(self):
         for seed in range(24):
@@ -425,7 +468,7 @@ class Foretold(unittest.TestCase):
     def test_two_calls(self):
         # All programs of two states agree at least on what is common to all.
         count = 0
-        for document in [document for document in SOUND if document[1] == TWO][::2]:
+        for document in [document for document in SOUND if document[1] == TWO][::3] + DEEP[TWO][4:6]:
             for bits in all_bits(4)[::2]:
                 programs = [program for program, told in packed(document) if told[:len(bits)] == bits]
                 if not programs or len(pack(document, programs[0])) < len(bits):
@@ -469,6 +512,16 @@ class Foretold(unittest.TestCase):
         self.assertEqual(foretold(TWICE_DOC, [1, 1], WORD * 60), (("y",) * 180, ()))
         self.assertEqual(foretold(samples.plus_chain(4), [], ("c",) * 200), (("x",) * 4 + ("y",) * 196, ()))
         self.assertEqual(foretold(RING, [], ("c",)), ((), ("x", "y", "z")))
+        # An entry of state 0 that is not written yet hangs on the stands of state 0, not on those of a later one.
+        parted = document_of_clauses(TWO, ("clause", "k", ("s", "p"), (
+            ("s", "c", (("x", "p"),)), ("s", "d", (("x", "s"),)), ("p", "c", (("x", "p"),)), ("p", "d", (("y", "p"),)))))
+        self.assertEqual(foretold(parted, [], ("d",)), (("x",), ()))
+        self.assertEqual(foretold(parted, [], ("c", "d", "c", "d")), (("x", "y", "x", "y"), ()))
+        # Where all is let, a new state may answer anything.
+        wild = document_of_clauses(TWO, ("clause", "k", ("s", "t"), (("s", "c", (("x", "t"),)), ("s", "d", (("x", "t"), ("y", "t"))))))
+        self.assertEqual(foretold(wild, [0, 0], ("d", "c")), (("x",), ("x", "y")))
+        self.assertEqual(foretold(wild, [0, 0], ("c", "c")), (("x",), ("x", "y")))
+        self.assertEqual(foretold(wild, [0, 0, 1], ("d", "c", "d", "d")), (("x", "x"), ("x", "y")))
         # What bits leave of a code: of six choices the first two, and the next two, have the same answer.
         wide = document_of_clauses(("house", (("call", "c", ("x", "y", "z")),)))
         self.assertEqual(foretold(wide, [], ("c",)), ((), ("x", "y", "z")))

@@ -10,10 +10,10 @@ from saidandasked.mending import mended
 from saidandasked.normals import normal
 from saidandasked.spending import budget_paper, is_beyond, is_within
 from tests import plain, samples
-from tests.samples import (FREE_DOC, MADE, ODD, ONE, QUARREL_DOC, STORE, STORE_DOC, TURNED, TWICE_DOC, TWO, bent, ring)
+from tests.samples import (THREE, FREE_DOC, MADE, ODD, ONE, QUARREL_DOC, STORE, STORE_DOC, TURNED, TWICE_DOC, TWO, bent, ring)
 from tests.test_covers import document_of_clauses
 from tests.test_decided import documents
-from tests.test_mending import some_programs
+from tests.test_mending import some_programs, wide_documents
 
 SMALL = samples.small_documents()
 
@@ -22,14 +22,14 @@ def roads(many):
     """Documents of one clause that lead one way through some places, to where all is let: much is paid on some roads."""
     for seed in range(many):
         draw = random.Random(seed)
-        house = (ONE, TWO)[seed % 2]
+        house = (ONE, TWO, THREE)[seed % 3]
         places = tuple(samples.free(3 + seed % 4))
         rows = []
         for at, place in enumerate(places[:-1]):
             for call in house[1]:
-                answers = draw.choice((("x",), ("y",), ("y",), ("x", "y")))
+                answers = draw.choice(("x", "y", "y", "xy", "yz" if house == THREE else "y"))
                 # On some roads one stays for ever at the last place but one.
-                goals = (place,) if seed % 3 == 0 and place == places[-2] else places[at + 1:]
+                goals = (place,) if seed % 4 == 0 and place == places[-2] else places[at + 1:]
                 rows.append((place, call[1], tuple((answer, draw.choice(goals)) for answer in answers)))
         yield document_of_clauses(house, ("clause", "road", places, tuple(rows)))
 
@@ -37,7 +37,7 @@ def roads(many):
 # Both answers at first; behind x only y for ever, behind y everything ([94]).
 HAND = document_of_clauses(ONE, ("clause", "k", ("s", "p", "q"), (
     ("s", "c", (("x", "p"), ("y", "q"))), ("p", "c", (("y", "p"),)))))
-ALL = list(documents(60)) + SMALL[::23] + list(roads(80)) + [HAND]
+ALL = list(documents(50)) + SMALL[::23] + list(roads(80)) + list(wide_documents(60)) + [HAND]
 SOUND = [document for document in ALL if plain.sound(document)]
 
 ALWAYS = ring(ONE, 1, ())
@@ -204,6 +204,25 @@ class Budgets(unittest.TestCase):
             answer, pair, left = good[0]
             told += (answer,)
         return told
+
+    def test_first_other_answers(self):
+        # z is dear, y is dearer, and x breaks; what is left tells which of them is given.
+        rows = (("s", "c", (("y", "p"), ("z", "q"))), ("p", "c", (("y", "r"),)), ("q", "c", (("y", "t"),)), ("r", "c", (("y", "t"),)))
+        road = document_of_clauses(THREE, ("clause", "road", ("s", "p", "q", "r", "t"), rows))
+        program = ring(THREE, 1, ())
+        self.assertEqual((budget(road, program), late_budget(road, program)), (2, 2))
+        for limit, word in ((2, "zyxx"), (3, "yyyx"), (4, "yyyx")):
+            found = within(road, program, limit)
+            self.assertEqual("".join(plain.trace(found, ("c",) * 4)[0]), word)
+            self.assertEqual(paid(found, program), 2 if limit == 2 else 3)
+        # What was paid once cannot be paid again: two places at which one way is dear, and the other one cheap.
+        rows = (("s", "c", (("x", "p"), ("y", "q"))), ("p", "c", (("y", "a"),)), ("a", "c", (("y", "q"),)),
+                ("q", "c", (("x", "b"), ("y", "t"))), ("b", "c", (("y", "d"),)), ("d", "c", (("y", "t"),)))
+        road = document_of_clauses(ONE, ("clause", "road", ("s", "p", "a", "q", "b", "d", "t"), rows))
+        self.assertEqual((budget(road, ALWAYS), late_budget(road, ALWAYS)), (2, 3))
+        for limit, word in ((2, "yyxxxxx"), (3, "xyyyxxx"), (4, "xyyxyyx"), (9, "xyyxyyx")):
+            self.assertEqual("".join(plain.trace(within(road, ALWAYS, limit), ("c",) * 7)[0]), word)
+            check_paper(self, road, ALWAYS, limit)
 
     def test_by_hand(self):
         self.assertEqual(mended(HAND, ALWAYS), ("program", ONE, ((("x", 1),), (("y", 1),))))

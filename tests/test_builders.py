@@ -292,6 +292,26 @@ class Builders(unittest.TestCase):
         self.assertEqual(told[0], "built")
         self.assertLessEqual(len(told[1][3]), 400)
 
+    def test_stands_that_do_not_come(self):
+        # Bars may tell of places to which nothing leads.
+        inner = document_of_clauses(INSIDE, ("clause", "i", ("s", "u", "v"), (
+            ("s", "q", (("x", "s"), ("y", "s"))), ("u", "q", (("x", "v"),)), ("v", "q", (("x", "u"), ("y", "u"))))))
+        wanted = document_of_clauses(JOINT, ("clause", "k", ("n", "m"), (("n", "c", ()), ("m", "c", (("no", "m"),)))))
+        first, here, there = ((("s",),), (("n",),)), ((("u",),), (("n",),)), ((("v",),), (("n",),))
+        both, elsewhere = ((("u", "v"),), (("n",),)), ((("s",),), (("m",),))
+        bars = (first + ("c", (first,)),)
+        more = [here + ("c", (here, there)), there + ("c", (there, here)), here + ("c", (here,)), both + ("c", (both,)),
+                elsewhere + ("c", (elsewhere,)), first + ("c", (first, here, there)), first + ("q", (first,)),
+                here + ("c", (there, here)), here + ("c", (here, there, here)), ((("s",),), ((),), "c", (first,)),
+                (((),), (("n",),), "c", (first,)), here + ("c", (here, there, both)), first + ("c", ())]
+        seen = [0, 0]
+        for bar in more:
+            for thing in (bars + (bar,), (bar,) + bars, (bar,), bars + (bar, bar)):
+                good = bars_form(inner, wanted, thing)
+                self.assertIs(are_bars(inner, wanted, thing), good, thing)
+                seen[good] += 1
+        self.assertGreater(min(seen), 10)
+
     def test_bent_bars(self):
         count = 0
         for inner, wanted in list(cases(220)) + [(INNER, document_of_clauses(JOINT, ASKED_CLAUSE, SILENT, ASKS_FIRST))]:
@@ -315,8 +335,9 @@ class Builders(unittest.TestCase):
         for asking, rest in ((built, ()), (are_bars, (None,))):
             for thing in ODD:
                 if not plain.document_form(thing):
-                    with self.assertRaises(BadDocument):
-                        asking(thing, None, *rest)
+                    for other in (None, WANTED):
+                        with self.assertRaises(BadDocument):
+                            asking(thing, other, *rest)
                     with self.assertRaises(BadDocument):
                         asking(QUARREL_DOC, thing, *rest)
             for inner, wanted in ((INNER, INNER), (INNER, turned), (unsound, turned), (INNER, document_of_clauses(OUTSIDE)),

@@ -123,6 +123,17 @@ class Gaps(unittest.TestCase):
         without = document_of_clauses(ONE, ONCE_DOC[2][0][:3] + (ONCE_DOC[2][0][3][:1],))
         self.assertIsNone(gap(without, ()))
 
+    def test_stands_that_cannot_pass(self):
+        # x leads to where c is never answered, and the suite asks it there: whoever passes answers y, and all is let.
+        document = document_of_clauses(TWO, ("clause", "k", ("s", "p", "t"), (
+            ("s", "c", (("x", "p"), ("y", "t"))), ("s", "d", (("x", "t"), ("y", "t"))), ("p", "c", ()), ("p", "d", (("y", "p"),)))))
+        self.assertIsNone(self.check(document, (("c", "c"),)))
+        self.assertIsNotNone(self.check(document, (("c", "d"),)))
+        self.assertIsNotNone(self.check(document, ()))
+        # A stand can pass behind one word, and cannot behind another one.
+        self.assertIsNone(self.check(document, (("c", "c"), ("c", "d"))))
+        self.assertIsNone(self.check(document, (("d",), ("c", "c"))))
+
     def test_long(self):
         # What is missed is broken long behind the words, through stands that are no longer safe.
         document = samples.rank_chain(30)

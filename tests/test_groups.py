@@ -162,6 +162,10 @@ class Groups(unittest.TestCase):
             other = together(document, histories[:1])
             for thing in draw.sample(things, min(90, len(things))) + ODD + [other, (other[0], other[1] + told[1])]:
                 self.assertIs(is_together(document, histories, thing), form(document, histories, thing), thing)
+            word = plain.calls(document[1])[0] if told[0] == "not" else tuple(call[2][0] for call in document[1][1])
+            for row in (((), word), ((0,), word), ((0, 1), word), ([0], word)):
+                for rows in (told[1] + (row,), (row,) + told[1]):
+                    self.assertIs(is_together(document, histories, (told[0], rows)), form(document, histories, (told[0], rows)))
             rows = list(told[1])
             draw.shuffle(rows)
             thing = (told[0], tuple(rows))

@@ -12,6 +12,7 @@ from saidandasked.errors import (BadAnswers, BadDocument, BadHistories, BadHouse
                                  NoDifference, NotAsked, NotGuessed, NotPossible, NotRight, OtherHouse, TooMany, Unsound)
 from saidandasked.learners import Learner, learn
 from saidandasked.makers import made
+from saidandasked.mending import mended
 from saidandasked.normals import normal, parting
 from saidandasked.stands import stands
 from saidandasked.tellings import told_clause
@@ -129,6 +130,18 @@ class Teller:
         self.case.assertEqual(self.guesses[-1], normal(self.program))
 
 
+def remembering(seed, house):
+    """A sound document whose places lead on, each answer to one place, and let both answers at most of them."""
+    draw = random.Random(seed)
+    places = tuple(samples.free(draw.randint(4, 8)))
+    rows = []
+    for at, place in enumerate(places):
+        for call in house[1]:
+            told = draw.choice((("x", "y"), ("x", "y"), ("x",), ("y",)))
+            rows.append((place, call[1], tuple((answer, places[(at + draw.randint(1, 2)) % len(places)]) for answer in told)))
+    return document_of_clauses(house, ("clause", "far", places, tuple(rows)))
+
+
 class Learners(unittest.TestCase):
     def test_all_small_programs(self):
         count = 0
@@ -158,6 +171,26 @@ class Learners(unittest.TestCase):
             document = samples.plus_chain(many)
             teller = Teller(self, document, made(document), draw).teach()
             self.assertEqual((teller.asked, len(teller.guesses), teller.learner.told()), (0, 1, []))
+
+    def test_long_ways(self):
+        # Programs that are unlike far behind alone, and documents that remember much.
+        draw = random.Random(3)
+        guesses = 0
+        for seed in range(40):
+            house = (ONE, TWO)[seed % 2]
+            many = 6 + seed % 15
+            rows = []
+            for at in range(many):
+                goal = (at + 1) % many if draw.random() < 0.8 else draw.randrange(many)
+                rows.append(tuple(("y" if draw.random() < 0.15 else "x", goal) for _ in house[1]))
+            program = ("program", house, tuple(rows))
+            document = ("document", house, ())
+            if seed % 4 > 1:
+                document = remembering(seed, house)
+                program = mended(document, program)
+            if len(normal(program)[2]) < 60:
+                guesses = max(guesses, len(Teller(self, document, program, draw).teach().guesses))
+        self.assertGreater(guesses, 4)
 
     def test_guess_is_wrong_by_the_document(self):
         # Nothing that is asked first tells it, but the document: behind ten calls the answer is y.
@@ -259,7 +292,8 @@ class Learners(unittest.TestCase):
     def check_answers(self, learner, document, word, deed):
         """Whatever is told, it is judged by its words; what is wrong changes nothing."""
         want, told = learner.wants(), learner.told()
-        for answers in ODD + [("x",) * (len(word) + 1), ("x",) * (len(word) - 1), ("z",) * len(word), [None] * len(word)]:
+        mixed = [["x"] * at + [other] + ["x"] * (len(word) - at - 1) for at in range(len(word)) for other in ("z", None, ["x"])]
+        for answers in ODD + mixed + [("x",) * (len(word) + 1), ("x",) * (len(word) - 1), ("z",) * len(word)]:
             if answers not in ([], ()) or word:
                 with self.assertRaises(BadAnswers):
                     deed(learner, answers)

@@ -1,5 +1,6 @@
 """mending: mended programs [90], editions [91]; carrying: papers that go over [96]; the facts of [97]."""
 
+import random
 import unittest
 
 from saidandasked.budgets import budget
@@ -13,13 +14,29 @@ from saidandasked.narrow import apart, is_narrowing, narrowing
 from saidandasked.normals import normal, parting
 from saidandasked.verdicts import is_law_verdict, law_verdict
 from tests import plain, samples
-from tests.samples import (COPIES, ENDLESS, FREE_DOC, MADE, ODD, ONE, QUARREL_DOC, STORE, STORE_DOC, TAKES, TURNED,
+from tests.samples import (THREE, COPIES, ENDLESS, FREE_DOC, MADE, ODD, ONE, QUARREL_DOC, STORE, STORE_DOC, TAKES, TURNED,
                            TWICE_DOC, TWO, bent, one_place, ring)
 from tests.test_covers import document_of_clauses, strict
 from tests.test_decided import documents, first_break_of
 
 SMALL = samples.small_documents()
-SOUND = [document for document in list(documents(100)) + SMALL[::13] if plain.sound(document)]
+
+
+def wide_documents(many):
+    """Sound documents with three answers, of which often two and sometimes all are let."""
+    for seed in range(many):
+        draw = random.Random(seed)
+        places = tuple(samples.free(2 + seed % 4))
+        rows = []
+        for at, place in enumerate(places[:-1]):
+            told = draw.choice(("x", "y", "z", "xy", "yz", "xz", "yz", "xyz"))
+            rows.append((place, "c", tuple((answer, draw.choice(places[at:] if seed % 3 else places)) for answer in told)))
+        document = document_of_clauses(THREE, ("clause", "wide", places, tuple(rows)))
+        if plain.sound(document):
+            yield document
+
+
+SOUND = [document for document in list(documents(90)) + SMALL[::13] if plain.sound(document)] + list(wide_documents(40))
 
 
 def mended_answers(document, program, word):
@@ -34,7 +51,8 @@ def mended_answers(document, program, word):
 
 def some_programs(number, document, step=11):
     most = 3 if document[1] == ONE else 2
-    return list(plain.programs(document[1], most))[number % step::step * (4 if document[1] == ONE else 5)]
+    programs = list(plain.programs(document[1], most))
+    return programs[number % step::step * (4 if document[1] == ONE else 5 if document[1] == TWO else 1)]
 
 
 class Mending(unittest.TestCase):
@@ -308,6 +326,13 @@ class Carrying(unittest.TestCase):
         rule = ("law", ONE, 1, (("true",),))
         with self.assertRaises(Unsound):
             carried(TWICE_DOC, QUARREL_DOC, rule, (), None)
+        with self.assertRaises(BadDocument):
+            carried(None, STORE_DOC, TAKES, pairs, table)
+        # Also if the law is of the house of one of both.
+        with self.assertRaises(OtherHouse):
+            carried(STORE_DOC, QUARREL_DOC, TAKES, pairs, table)
+        with self.assertRaises(OtherHouse):
+            carried(STORE_DOC, QUARREL_DOC, rule, pairs, table)
         with self.assertRaises(BadPaper) as caught:
             carried(QUARREL_DOC, TWICE_DOC, rule, narrowing(QUARREL_DOC, TWICE_DOC), ())
         self.assertEqual(caught.exception.word, "pairs")
