@@ -34,6 +34,9 @@ HOUSES = [
     (("house", (("call", "c", ("no", "yes")), ("call", "d", ("yes",)))), INSIDE),
     (("house", (("call", "c", ("no", "yes")), ("call", "d", ("no", "yes")))),
      ("house", (("call", "q", ("x", "y")), ("call", "r", ("x",))))),
+    (OUTSIDE, ("house", (("call", "q", ("x", "y")), ("call", "r", ("x",)), ("call", "u", ("y",)), ("call", "w", ("x",))))),
+    (("house", (("call", "c", ("no", "yes")), ("call", "d", ("yes", "no")), ("call", "e", ("yes",)), ("call", "f", ("yes", "on")))),
+     INSIDE),
 ]
 
 
@@ -41,7 +44,7 @@ def joint(outer):
     return ("house", outer[1][1] + outer[2][1])
 
 
-def drawn_thing(seed, house, inner, waits=4, most=3):
+def drawn_thing(seed, house, inner, waits=3, most=4):
     """An outer thing with nodes that may serve several calls, and some that serve none."""
     draw = random.Random(seed)
     waits = draw.randint(1, waits)
@@ -88,7 +91,7 @@ def drawn_clauses(seed, house, names="kl", strictly=0.8):
 def cases(many, first=0):
     """Outer things, sound inner documents, and wanted documents of the joint house."""
     for seed in range(first, first + many):
-        house, inside = HOUSES[seed % 4]
+        house, inside = HOUSES[seed % 6]
         outer = drawn_thing(seed, house, inside)
         inner = ("document", inside, drawn_clauses(seed * 3, inside))
         if seed % 5 == 0:
@@ -237,7 +240,7 @@ class Upon(unittest.TestCase):
     def things(self, many):
         for seed in range(many):
             if seed % 3:
-                house, inside = HOUSES[seed % 4]
+                house, inside = HOUSES[seed % 6]
                 outer = drawn_thing(seed, house, inside)
             else:
                 outer = samples.drawn_outer(seed)
@@ -251,7 +254,7 @@ class Upon(unittest.TestCase):
             self.assertTrue(plain.program_form(told))
             self.assertEqual(told[1], outer[1])
             self.assertEqual(normal(told), told)
-            for word in plain.words(outer[1], 3 if len(outer[1][1]) < 4 else 2):
+            for word in plain.words(outer[1], 3 if len(outer[1][1]) < 3 else 2):
                 history = run_led(outer, program, word)
                 self.assertEqual(led(outer, program, word), history)
                 own = tuple(answer for call, answer in history if call in plain.calls(outer[1]))
@@ -433,7 +436,7 @@ class Fits(unittest.TestCase):
 class Weakest(unittest.TestCase):
     def test_all(self):
         sizes = {}
-        for number, (outer, inner, wanted) in enumerate(cases(260)):
+        for number, (outer, inner, wanted) in enumerate(cases(420)):
             said = weakest(outer, wanted)
             self.assertTrue(is_meaning(said))
             self.assertEqual(said[1], outer[2])
@@ -527,7 +530,7 @@ class Images(unittest.TestCase):
             self.assertTrue(is_meaning(said))
             self.assertEqual(said[1], outer[1])
             sizes[len(said[2])] = sizes.get(len(said[2]), 0) + 1
-            for history in plain.histories(outer[1], 3):
+            for history in plain.histories(outer[1], 3 if len(outer[1][1]) < 4 else 2):
                 self.assertEqual(has(said, history), self.makes(outer, inner, history))
             document = document_of(said, "said")
             self.assertEqual(meaning(document), said)

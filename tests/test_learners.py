@@ -192,6 +192,42 @@ class Learners(unittest.TestCase):
                 guesses = max(guesses, len(Teller(self, document, program, draw).teach().guesses))
         self.assertGreater(guesses, 4)
 
+    def test_tellers_without_a_program(self):
+        # Whatever is told, if it is possible: there need be no program of few states that has it all.
+        draw = random.Random(4)
+        for seed, document in enumerate(SOUND[::3] + [remembering(seed, TWO) for seed in range(12)] + [FREE_DOC, STORE_DOC]):
+            learner = Learner(document)
+            before = 0
+            for _ in range(40):
+                kind, thing = learner.wants()
+                told = learner.told()
+                if kind == "word":
+                    learner.answer(self.drawn_answers(draw, document, told, thing))
+                    continue
+                self.assertEqual(normal(thing), thing)
+                self.assertTrue(plain.right(document, thing) and has_all(thing, told))
+                self.assertGreater(len(thing[2]), before)
+                before = len(thing[2])
+                for _ in range(20):
+                    word = tuple(draw.choice(plain.calls(document[1])) for _ in range(draw.randint(1, 6)))
+                    answers = self.drawn_answers(draw, document, told, word)
+                    if answers != plain.trace(thing, word)[0]:
+                        learner.differs(word, answers)
+                        break
+                else:
+                    learner.agrees()
+                    self.assertEqual(learner.wants(), ("known", thing))
+                    break
+
+    def drawn_answers(self, draw, document, told, word):
+        """Answers that are possible."""
+        history = ()
+        for call in word:
+            held = [answer for answer in plain.held_answers(document, history, call)
+                    if all(agree(history + ((call, answer),), other) for other in told)]
+            history += ((call, draw.choice(held)),)
+        return tuple(answer for _, answer in history)
+
     def test_guess_is_wrong_by_the_document(self):
         # Nothing that is asked first tells it, but the document: behind ten calls the answer is y.
         places = tuple(samples.free(11))
