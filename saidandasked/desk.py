@@ -1,6 +1,9 @@
 """A desk: a document, a history and laws, which lines change and ask for."""
 
-from saidandasked.errors import BadDocument, NothingDone, NothingUndone, PageError
+from saidandasked.errors import (
+    BadAnswer, BadCall, BadDocument, BadLaw, BadLaws, BadLimit, BadName, BadOuter, BadProgram, BadText, BadWord,
+    NothingDone, NothingUndone, OtherHouse, OverAsks, TooMany, Unsound,
+)
 from saidandasked.lines import DEEDS, QUESTIONS, form_of
 from saidandasked.reading import read
 from saidandasked.words import is_text
@@ -20,12 +23,45 @@ class Desk:
     def say(self, line):
         """The answer to any value: to what a line does or asks for."""
         form = form_of(line) if is_text(line) else None
-        if form is None:
-            return "what"
+        return "what" if form is None else self.outcome(form[0], form[1])
+
+    def outcome(self, head, rest):
+        """The answer to a line of one of the forms, or the name of the error that it raises."""
+        # These are all the errors that deeds and questions can come to: what they pass on is good but for them.
         try:
-            return self.answered(form[0], form[1])
-        except PageError as error:
-            return "error " + error.__class__.__name__
+            return self.answered(head, rest)
+        except BadAnswer:
+            return "error BadAnswer"
+        except BadCall:
+            return "error BadCall"
+        except BadLaw:
+            return "error BadLaw"
+        except BadLaws:
+            return "error BadLaws"
+        except BadLimit:
+            return "error BadLimit"
+        except BadName:
+            return "error BadName"
+        except BadOuter:
+            return "error BadOuter"
+        except BadProgram:
+            return "error BadProgram"
+        except BadText:
+            return "error BadText"
+        except BadWord:
+            return "error BadWord"
+        except NothingDone:
+            return "error NothingDone"
+        except NothingUndone:
+            return "error NothingUndone"
+        except OtherHouse:
+            return "error OtherHouse"
+        except OverAsks:
+            return "error OverAsks"
+        except TooMany:
+            return "error TooMany"
+        except Unsound:
+            return "error Unsound"
 
     def answered(self, head, rest):
         """The answer to a line of one of the forms."""
